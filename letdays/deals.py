@@ -156,9 +156,8 @@ class Deal:
 
     def touches(self, other):
         """Whether both have a cell in common, and at least one of them is alone."""
-        if not isinstance(other, Deal):
-            raise InvalidDeal(other)
-        return len(self & other) > 0 and (self._alone or other._alone)
+        common = self & other
+        return len(common) > 0 and (self._alone or other._alone)
 
     def __eq__(self, other):
         if not isinstance(other, Deal):
@@ -176,7 +175,7 @@ class Deal:
     def _shown(self):
         """Its parts as the constructor takes them."""
         places = [list(names) for names in (self._films, self._lands, self._ways)]
-        parts = [self._name, self._house] + places + [self._begin, self._end]
+        parts = [self._name, self._house, places[0], places[1], places[2], self._begin, self._end]
         told = ", ".join([repr(part) for part in parts])
         return f"{told}, alone={self._alone!r}, price={self._price!r}"
 

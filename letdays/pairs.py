@@ -1,6 +1,5 @@
 """Two deals of a book: whether they may be on together, and the papers that show it."""
 
-from letdays.checks import check_deal_of
 from letdays.closing import row, span
 from letdays.errors import SameDeal
 from letdays.networks import clause_between, dates_in, sum_of
@@ -9,16 +8,16 @@ from letdays.values import is_name
 
 def word(book, one, other):
     """Whether two deals are on together: "never", "perhaps" or "surely"."""
-    check_pair(book, one, other)
-    return word_of(book.full(), book[one], book[other])
+    first, second = book[one], book[other]
+    return word_of(book.full(), first, second)
 
 
 def clash(book, one, other):
     """The word of two different deals; "apart" if they do not touch."""
-    check_pair(book, one, other)
+    first, second = book[one], book[other]
     if one == other:
         raise SameDeal(one)
-    return word(book, one, other) if book[one].touches(book[other]) else "apart"
+    return word_of(book.full(), first, second) if first.touches(second) else "apart"
 
 
 def words(book):
@@ -30,23 +29,22 @@ def words(book):
 
 def reach(book, one, other):
     """The greatest number of days by which the end of one is behind the begin of other; None without end."""
-    check_pair(book, one, other)
-    return most_behind(book.full(), book[one].end, book[other].begin)
+    first, second = book[one], book[other]
+    return most_behind(book.full(), first.end, second.begin)
 
 
 def apart_paper(book, one, other):
     """The paper that one of two deals has surely ended when the other one begins; None if it is not so."""
-    check_pair(book, one, other)
+    first, second = book[one], book[other]
     full = book.full()
-    for ahead, behind in ((one, other), (other, one)):
-        if is_surely_ahead(full, book[ahead], book[behind]):
-            return (ahead, behind, row(full, book[ahead].end[0], book[behind].begin[0]))
+    for ahead, behind in ((first, second), (second, first)):
+        if is_surely_ahead(full, ahead, behind):
+            return (ahead.name, behind.name, row(full, ahead.end[0], behind.begin[0]))
     return None
 
 
 def together_paper(book, one, other):
     """Dates and a day on which both deals are on; None if there are none."""
-    check_pair(book, one, other)
     first, second = book[one], book[other]
     asked = [clause_between(first.begin, second.end), clause_between(second.begin, first.end)]
     dates = dates_in(book.calendar.moments(), book.clauses() + asked)
@@ -57,33 +55,31 @@ def together_paper(book, one, other):
 
 def surely_paper(book, one, other):
     """Two rows that show that neither deal begins behind the other's end; None if it is not so."""
-    check_pair(book, one, other)
-    if word(book, one, other) != "surely":
-        return None
-    full = book.full()
     first, second = book[one], book[other]
+    full = book.full()
+    if word_of(full, first, second) != "surely":
+        return None
     return (row(full, first.begin[0], second.end[0]), row(full, second.begin[0], first.end[0]))
 
 
 def is_apart_paper(book, one, other, value):
     """Whether any value is an apart paper of two deals, either of them ahead."""
-    check_pair(book, one, other)
+    first, second = book[one], book[other]
     if not isinstance(value, tuple) or len(value) != 3:
         return False
-    ahead, behind, path = value
-    if not is_name(ahead) or not is_name(behind) or (ahead, behind) not in ((one, other), (other, one)):
-        return False
-    most = row_span(book.full(), book[ahead].end, book[behind].begin, path)
-    return most is not None and most < 0
+    for ahead, behind in ((first, second), (second, first)):
+        if is_name(value[0]) and is_name(value[1]) and (ahead.name, behind.name) == (value[0], value[1]):
+            most = row_span(book.full(), ahead.end, behind.begin, value[2])
+            return most is not None and most < 0
+    return False
 
 
 def is_surely_paper(book, one, other, value):
     """Whether any value is a surely paper of two deals."""
-    check_pair(book, one, other)
+    first, second = book[one], book[other]
     if not isinstance(value, tuple) or len(value) != 2:
         return False
     full = book.full()
-    first, second = book[one], book[other]
     forth = row_span(full, first.begin, second.end, value[0])
     back = row_span(full, second.begin, first.end, value[1])
     return forth is not None and forth <= 0 and back is not None and back <= 0
@@ -91,19 +87,13 @@ def is_surely_paper(book, one, other, value):
 
 def dates_apart(book, one, other):
     """Dates in which two deals are not on together on any day; None if they surely are."""
-    check_pair(book, one, other)
-    for ahead, behind in ((one, other), (other, one)):
-        asked = clause_between(book[ahead].end, book[behind].begin, -1)
+    first, second = book[one], book[other]
+    for ahead, behind in ((first, second), (second, first)):
+        asked = clause_between(ahead.end, behind.begin, -1)
         dates = dates_in(book.calendar.moments(), book.clauses() + [asked])
         if dates is not None:
             return dates
     return None
-
-
-def check_pair(book, one, other):
-    """Raise UnknownDeal unless both are names of deals of the book."""
-    check_deal_of(book, one)
-    check_deal_of(book, other)
 
 
 def word_of(full, one, other):

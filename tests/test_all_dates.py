@@ -17,7 +17,7 @@ class AllDates(Case):
     def test_sequence(self):
         calendar = Calendar(["b", "a"], [("a", "b", 0)])
         self.same(list(all_dates(calendar, 0, 1)), [{"a": 0, "b": 0}, {"a": 0, "b": 1}, {"a": 1, "b": 1}])
-        self.same(list(all_dates(calendar, last=-1, first=-1)), [{"a": -1, "b": -1}])
+        self.same(list(all_dates(last=-1, first=-1, calendar=calendar)), [{"a": -1, "b": -1}])
         self.same(list(all_dates(Calendar(["m"]), -2, 1)), [{"m": -2}, {"m": -1}, {"m": 0}, {"m": 1}])
 
     def test_against_all_tuples(self):

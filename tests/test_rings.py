@@ -176,8 +176,9 @@ class Dates(Case):
         self.check(["a", "b", "c", "d"], [("day", "b", -5), ("c", "b", -3), ("c", "d", -1000)], True)
 
     def test_far_away(self):
-        self.check(["a", "b", "c"], [("a", "b", -1000), ("b", "c", -1000), ("c", "day", -1000), ("day", "b", 9000)], True)
-        self.check(["a", "b", "c"], [("a", "b", 1000), ("day", "a", -1000), ("c", "b", -1000), ("day", "c", -5)], True)
+        for clauses in ([("a", "b", -1000), ("b", "c", -1000), ("c", "day", -1000), ("day", "b", 9000)],
+                        [("a", "b", 1000), ("day", "a", -1000), ("c", "b", -1000), ("day", "c", -5)]):
+            self.check(["a", "b", "c"], clauses, True)
 
     def test_a_chain_of_eight_that_comes_round(self):
         self.check(LETTERS, chain(-9), False)
