@@ -67,3 +67,19 @@ def check_dates_of(book, dates):
     """Raise InvalidDates unless these are dates of the book."""
     if dates not in book.full():
         raise InvalidDates(dates)
+
+
+def check_names_of(book, names):
+    """Raise InvalidNames unless these are different names of deals of the book in a list."""
+    if not is_list(names):
+        raise InvalidNames(None)
+    for at in range(len(names)):
+        if names[at] not in book or names[at] in names[:at]:
+            raise InvalidNames(at)
+
+
+def check_some_names_of(book, names):
+    """Raise InvalidNames unless these are one or more different names of deals of the book in a list."""
+    check_names_of(book, names)
+    if len(names) == 0:
+        raise InvalidNames(None)

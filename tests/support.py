@@ -7,6 +7,10 @@ import itertools
 import random
 import unittest
 
+from letdays.books import Book
+from letdays.calendars import Calendar
+from letdays.deals import Deal
+
 ZERO = "day"
 
 # Values of many kinds. None of them is a float.
@@ -132,3 +136,113 @@ def networks(seed, count, moments, many, size):
     """So many lists of clauses, with and without dates."""
     source = numbers(seed)
     return [some_clauses(source, moments, source.randint(0, many), size) for _ in range(count)]
+
+
+def deal(name, begin, end, lands="x", alone=True, price=1):
+    """A deal of one film and one way."""
+    return Deal(name, "h", ["f"], list(lands), ["w"], begin, end, alone=alone, price=price)
+
+
+def some_deal(source, name, moments, size, long):
+    """A deal between points of these moments and `day`, with numbers about the size, long days at most."""
+    stops = list(moments) + [ZERO]
+    begin = (source.choice(stops), source.randint(-size, size))
+    end = (source.choice(stops), begin[1] + source.randint(0, long))
+    lands, alone = source.choice(["x", "y", "xy"]), source.choice([True, True, False])
+    return deal(name, begin, end, lands, alone, source.choice([0, 1, 2, 3, 5, 8]))
+
+
+def small_books(seed, count, names="abcd", size=3):
+    """Books with the moments m and n from the day 0 to the day 4, each with all its dates."""
+    source = numbers(seed)
+    fixed = [("m", "day", 4), ("day", "m", 0), ("n", "day", 4), ("day", "n", 0)]
+    found = []
+    while len(found) < count:
+        clauses = fixed + [clause for clause in some_clauses(source, ["m", "n"], 2, 3) if clause not in fixed]
+        deals = [some_deal(source, name, ["m", "n"], size, 3) for name in names]
+        own = [one.own_clause() for one in deals if one.own_clause() is not None]
+        every = dates_by_hand(["m", "n"], clauses + own, 0, 4)
+        if every:
+            found.append((Book(Calendar(["m", "n"], clauses), deals), every))
+    return found
+
+
+def open_books(seed, count, names="abcd", size=6):
+    """Books with the moments m, n and p, of which some have no first or no last day, with and without own clauses."""
+    source = numbers(seed)
+    moments = ["m", "n", "p"]
+    found = []
+    while len(found) < count:
+        clauses = some_clauses(source, moments, 5, 9)
+        deals = [some_deal(source, name, moments, size, 4) for name in names]
+        own = [one.own_clause() for one in deals if one.own_clause() is not None]
+        if not rings_by_hand(clauses + own):
+            found.append(Book(Calendar(moments, clauses), deals))
+    return found
+
+
+def lots_of(names):
+    """All lots of these names, the empty one too, as sorted lists."""
+    return [list(lot) for many in range(len(names) + 1) for lot in itertools.combinations(sorted(names), many)]
+
+
+def is_ahead_by_hand(book, one, other):
+    """Whether one deal is surely ahead of the other one, by all rows."""
+    most = bound_by_hand(book.clauses(), book[one].end[0], book[other].begin[0])
+    return most is not None and most + book[one].end[1] - book[other].begin[1] < 0
+
+
+def ahead_by_hand(book):
+    """The sorted list of the tuples of names, one surely ahead of the other one."""
+    names = book.names()
+    return [(one, other) for one in names for other in names if is_ahead_by_hand(book, one, other)]
+
+
+def crowds_by_hand(names, ahead):
+    """All crowds of these names."""
+    every = [lot for lot in lots_of(names) if lot]
+    return [lot for lot in every if not any((one, other) in ahead for one in lot for other in lot)]
+
+
+def chains_by_hand(names, ahead):
+    """All chains of these names."""
+    found = []
+    for lot in lots_of(names):
+        for row in itertools.permutations(lot):
+            if row and all(pair in ahead for pair in zip(row, row[1:])):
+                found.append(list(row))
+    return found
+
+
+def open_by_hand(book, ahead):
+    """The sorted list of the open pairs."""
+    def touch(one, other):
+        return any(cell in other.cells() for cell in one.cells()) and (one.alone or other.alone)
+    return [(one.name, other.name) for one in book for other in book
+            if one.name < other.name and touch(one, other)
+            and (one.name, other.name) not in ahead and (other.name, one.name) not in ahead]
+
+
+def wrong_names(names):
+    """Tuples of a value that is no list of different ones of these two or more names, and the position of the error."""
+    found = [(value, None) for value in ODD_VALUES if not isinstance(value, (list, tuple))]
+    for value in [value for value in ODD_VALUES if value not in names] + ["zz", names]:
+        found += [([value], 0), ((value,), 0), ([names[0], value], 1), ((names[1], names[0], value, None), 2)]
+    found += [([names[0], names[0]], 1), ([names[0], names[1], names[0], "zz"], 2), (["zz", "zz"], 0)]
+    return found
+
+
+def wrong_dates(book):
+    """Values that are no dates of a book with moments and with dates."""
+    right = book.full().dates()
+    first = list(right)[0]
+    found = [value for value in ODD_VALUES if not isinstance(value, dict) or sorted(map(repr, value)) != sorted(right)]
+    found += [list(right.items()), {**right, "zz": 0}, {**right, "day": 0}]
+    found += [{**right, first: value} for value in (True, None, "1", [1])]
+    return found + [{name: right[name] for name in right if name != first}]
+
+
+def wrong_cells():
+    """Values that are no tuple of three names."""
+    return ODD_VALUES + [["f", "x", "w"], ("f", "x"), ("f", "x", "w", "w"), ("f", "day", "w"), ("f", "x", "W"),
+                         ("f", None, "w"), (True, "x", "w"), ("f", "x", ["w"]), "fxw"]

@@ -14,7 +14,6 @@ STAGE_1 = '''
 '''
 
 STAGE_2 = '''
->>> from letdays.calendars import Calendar
 >>> from letdays.books import Book
 >>> from letdays.deals import Deal
 >>> from letdays.diaries import clashes, diary
@@ -28,12 +27,9 @@ STAGE_2 = '''
 [[], [('a', 'b', 60, 69)], [(40, 59, ['a']), (60, 69, ['a', 'b']), (70, 120, ['b'])]]
 '''
 
-# Of this example only what needs no more than letdays.pairs.
 STAGE_3 = '''
->>> from letdays.calendars import Calendar
->>> from letdays.books import Book
->>> from letdays.deals import Deal
 >>> from letdays.pairs import apart_paper, is_surely_paper, reach, word
+>>> from letdays.together import first_apart, is_safe, is_together_paper, is_tree, open_pairs, quiet_dates
 >>> year = Calendar(["show"], [("show", "day", 40), ("day", "show", -10)])
 >>> halls = Deal("halls", "odeon", ["film"], ["be", "nl"], ["hall"], ("show", 0), ("show", 29))
 >>> discs = Deal("discs", "plate", ["film"], ["be"], ["disc"], ("show", 30), ("day", 100))
@@ -41,26 +37,69 @@ STAGE_3 = '''
 >>> book = Book(year, [halls, discs, net])
 >>> [word(book, "halls", "discs"), word(book, "halls", "net"), word(book, "net", "discs"), reach(book, "halls", "net")]
 ['never', 'perhaps', 'surely', 9]
->>> apart_paper(book, "discs", "halls")
-('halls', 'discs', [])
->>> is_surely_paper(book, "discs", "net", ([("show", "day", 40)], []))
+>>> [apart_paper(book, "discs", "halls"), is_together_paper(book, ["net", "halls"], ({"show": 31}, 60))]
+[('halls', 'discs', []), True]
+>>> [is_surely_paper(book, "discs", "net", ([("show", "day", 40)], [])), first_apart(book, ["net", "halls", "discs"])]
+[True, ('discs', 'halls')]
+>>> [open_pairs(book), is_safe(book), quiet_dates(book)]
+[[('discs', 'net'), ('halls', 'net')], False, None]
+>>> is_tree(book, ("discs", "net", [("day", "day", -41)], [("day", "show", -61), ("show", "day", 40)]))
 True
 '''
 
+STAGE_4 = '''
+>>> from letdays.crowds import greatest_crowd, heights, is_roster, most_at_once
+>>> from letdays.order import ahead_row, direct_pairs, is_ahead, least_gap
+>>> calendar = Calendar(["m", "n"], [("day", "m", -10), ("m", "n", -30)])
+>>> hall = Deal("a", "h", ["f"], ["x"], ["hall"], ("m", 0), ("m", 24))
+>>> disc = Deal("b", "k", ["f"], ["x"], ["hall"], ("n", 0), ("n", 9))
+>>> early = Deal("c", "k", ["f"], ["x"], ["hall"], ("day", 0), ("n", -25))
+>>> book = Book(calendar, [hall, disc, early])
+>>> [is_ahead(book, "a", "b"), least_gap(book, "a", "b"), ahead_row(book, "a", "b"), direct_pairs(book)]
+[True, 5, [('m', 'n', -30)], [('a', 'b'), ('c', 'b')]]
+>>> [greatest_crowd(book, ["a", "b", "c"]), most_at_once(book, ["a", "b"]), heights(book, ["a", "b", "c"])]
+[['a', 'c'], 1, {'a': 1, 'b': 2, 'c': 1}]
+>>> [is_roster(book, ["a", "b", "c"], [["a", "b"], ["c"]]), is_roster(book, ["a", "b", "c"], [["c", "a"], ["b"]])]
+[True, False]
+'''
+
+# Of this example only what needs letdays.keeping alone.
+STAGE_5 = '''
+>>> from letdays.keeping import chain_price, charge, dearest_chain
+>>> calendar = Calendar(["x"], [("day", "x", 0), ("x", "day", 30)])
+>>> early = Deal("a", "hale", ["f"], ["l"], ["hall"], ("x", 0), ("x", 9), price=3)
+>>> late = Deal("b", "iver", ["f"], ["l"], ["hall"], ("x", 10), ("x", 19), price=4)
+>>> fixed = Deal("c", "hale", ["f"], ["l"], ["hall"], ("day", 12), ("day", 20), price=5)
+>>> book = Book(calendar, [early, late, fixed])
+>>> cell = ("f", "l", "hall")
+>>> [chain_price(book, cell), dearest_chain(book, cell), sum([number for crowd, number in charge(book, cell)])]
+[7, ['a', 'b'], 7]
+'''
+
+
+STAGES = [STAGE_1, STAGE_2, STAGE_3, STAGE_4, STAGE_5]
+
 
 class Examples(unittest.TestCase):
-    def run_example(self, text):
-        test = doctest.DocTestParser().get_doctest(text, {}, "DOC.md", "DOC.md", 0)
+    def run_examples(self, count):
+        """Run so many stages, one behind another: names stand for what they were in the last example."""
         told = []
+        test = doctest.DocTestParser().get_doctest("\n".join(STAGES[:count]), {}, "DOC.md", "DOC.md", 0)
         failed, tried = doctest.DocTestRunner(verbose=False).run(test, out=told.append)
-        self.assertGreater(tried, 0)
+        self.assertGreater(tried, 3 * count)
         self.assertEqual(failed, 0, "".join(told))
 
     def test_stage_1(self):
-        self.run_example(STAGE_1)
+        self.run_examples(1)
 
     def test_stage_2(self):
-        self.run_example(STAGE_2)
+        self.run_examples(2)
 
     def test_stage_3(self):
-        self.run_example(STAGE_3)
+        self.run_examples(3)
+
+    def test_stage_4(self):
+        self.run_examples(4)
+
+    def test_stage_5(self):
+        self.run_examples(5)

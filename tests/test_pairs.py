@@ -2,19 +2,12 @@
 
 from letdays.books import Book
 from letdays.calendars import Calendar
-from letdays.deals import Deal
 from letdays.errors import SameDeal, UnknownDeal
 from letdays.pairs import (apart_paper, clash, dates_apart, is_apart_paper, is_surely_paper, reach, surely_paper,
                            together_paper, word, words)
-from tests.support import Case, ODD_VALUES, dates_by_hand, is_row_by_hand, keeps, numbers, point_day, some_clauses
-from tests.support import total
+from tests.support import Case, ODD_VALUES, deal, is_row_by_hand, keeps, point_day, small_books, total
 
 BIG = 10 ** 30 - 1
-
-
-def deal(name, begin, end, lands="x", alone=True):
-    return Deal(name, "h", ["f"], list(lands), ["w"], begin, end, alone=alone)
-
 
 YEAR = Calendar(["show"], [("show", "day", 40), ("day", "show", -10)])
 HALLS = deal("halls", ("show", 0), ("show", 29), "xy")
@@ -46,25 +39,6 @@ def is_row_from(book, point, other, value, most):
     if not isinstance(value, (list, tuple)) or not is_row_by_hand(book.clauses(), point[0], other[0], value):
         return False
     return total(value) + point[1] - other[1] <= most
-
-
-def small_books(seed, count):
-    """Books with the moments m and n from the day 0 to the day 4, the tuples of them and all their dates."""
-    source = numbers(seed)
-    fixed = [("m", "day", 4), ("day", "m", 0), ("n", "day", 4), ("day", "n", 0)]
-    found = []
-    while len(found) < count:
-        clauses = fixed + [clause for clause in some_clauses(source, ["m", "n"], 2, 3) if clause not in fixed]
-        deals = []
-        for name in ("a", "b", "c", "d"):
-            begin = (source.choice(["m", "n", "day"]), source.randint(-3, 3))
-            end = (source.choice(["m", "n", "day"]), begin[1] + source.randint(0, 3))
-            deals.append(deal(name, begin, end, source.choice(["x", "y", "xy"]), source.choice([True, False])))
-        own = [one.own_clause() for one in deals if one.own_clause() is not None]
-        every = dates_by_hand(["m", "n"], clauses + own, 0, 4)
-        if every:
-            found.append((Book(Calendar(["m", "n"], clauses), deals), every))
-    return found
 
 
 class AgainstAllDates(Case):
