@@ -4,17 +4,12 @@ Each name has a weight, a COUNT: 1 where names are counted, its price where pric
 """
 
 from letdays.flows import greatest_amounts
-from letdays.values import is_list, is_name
+from letdays.values import are_sorted, is_list, is_name
 
 
 def are_names_of(names, value):
     """Whether any value is a list of one or more of these names."""
     return is_list(value) and len(value) > 0 and all([is_name(name) and name in names for name in value])
-
-
-def are_sorted(names):
-    """Whether each of the names is behind the one before it."""
-    return all([names[at - 1] < names[at] for at in range(1, len(names))])
 
 
 def is_crowd_of(names, pairs, value):

@@ -30,13 +30,11 @@ def path_for_more(supply, demand, amounts):
     By its links one name gives more, and one gets more; each other name gives and gets as much as before.
     """
     paths = {name: [] for name in supply if unused(supply, amounts, name) > 0}
-    takers = []
     waiting = list(paths)
     while len(waiting) > 0:
         giver = waiting[0]
         waiting = waiting[1:]
-        for forth in [link for link in amounts if link[0] == giver and link[1] not in takers]:
-            takers.append(forth[1])
+        for forth in [link for link in amounts if link[0] == giver]:
             if unmet(demand, amounts, forth[1]) > 0:
                 return paths[giver] + [forth]
             for back in [link for link in amounts if link[1] == forth[1] and amounts[link] > 0]:

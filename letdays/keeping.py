@@ -2,7 +2,6 @@
 
 from letdays.chains import chains_over, crowds_over, heaviest_chain, heaviest_crowd, is_chain_of, is_crowd_of
 from letdays.chains import weight_of
-from letdays.checks import check_cell
 from letdays.order import ahead_pairs
 from letdays.values import is_count, is_list, is_name
 
@@ -76,10 +75,9 @@ class Priced:
     """The dearest chain and crowd of a cell of a book; the cell can be set."""
 
     def __init__(self, book, cell):
-        check_cell(cell)
+        self._names = tuple(book.at(cell))
         self._book = book
         self._cell = cell
-        self._names = tuple(book.at(cell))
 
     @property
     def book(self):
@@ -93,9 +91,8 @@ class Priced:
 
     @cell.setter
     def cell(self, value):
-        check_cell(value)
-        self._cell = value
         self._names = tuple(self._book.at(value))
+        self._cell = value
 
     def use(self, cell):
         """Set the cell to another one."""

@@ -1,9 +1,10 @@
 """What can be on together: some deals on one day, and dates in which no two deals clash."""
 
-from letdays.checks import check_dates_of, check_some_names_of
+from letdays.checks import check_some_names_of
 from letdays.diaries import clashes
 from letdays.errors import TooMany
 from letdays.networks import clause_between, dates_in, ring_in, sum_of
+from letdays.order import ahead_pairs
 from letdays.pairs import word_of
 from letdays.values import is_integer, is_list, is_moment, is_name
 
@@ -63,12 +64,12 @@ def is_safe(book):
 
 def open_pairs(book):
     """The sorted list of the tuples of names of deals that can clash."""
-    return [pair for pair in book.touching() if word_in(book, pair) != "never"]
+    ahead = ahead_pairs(book)
+    return [pair for pair in book.touching() if pair not in ahead and pair[::-1] not in ahead]
 
 
 def is_quiet(book, dates):
     """Whether no two deals of the book clash in dates."""
-    check_dates_of(book, dates)
     return len(clashes(book, dates)) == 0
 
 

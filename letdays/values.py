@@ -59,6 +59,24 @@ def first_wrong_name(names):
     return None
 
 
+def are_names(values):
+    """Whether all of these values are NAMES."""
+    return all([is_name(value) for value in values])
+
+
+def are_sorted(names):
+    """Whether each of the names is behind the one before it."""
+    return all([names[at - 1] < names[at] for at in range(1, len(names))])
+
+
+def lots_of(names):
+    """All sorted tuples of some of these names, the empty one first."""
+    found = [()]
+    for name in sorted(names):
+        found = found + [lot + (name,) for lot in found]
+    return found
+
+
 def day_of(dates, moment):
     """The day of a moment, or of `day`, in dates."""
     return 0 if moment == FIXED else dates[moment]

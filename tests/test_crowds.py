@@ -1,5 +1,6 @@
 """[42] to [45]: crowds, chains and rosters, against all lots of the deals, gone through one by one."""
 
+import copy
 import itertools
 
 from letdays.books import Book
@@ -7,8 +8,8 @@ from letdays.calendars import Calendar
 from letdays.crowds import (Screens, at_most_paper, greatest_crowd, heights, is_at_most_paper, is_chain, is_crowd,
                             is_roster, layers, least_roster, longest_chain, most_at_once)
 from letdays.errors import InvalidDates, InvalidNames, InvalidNumber, UnknownDeal
-from tests.support import Case, ODD_VALUES, ahead_by_hand, chains_by_hand, crowds_by_hand, deal, keeps, lots_of
-from tests.support import odd_but, open_books, point_day, small_books, wrong_dates, wrong_names
+from tests.support import Anything, Case, ODD_VALUES, ahead_by_hand, chains_by_hand, crowds_by_hand, deal, keeps
+from tests.support import lots_of, odd_but, open_books, point_day, small_books, wrong_dates, wrong_names
 
 
 def partings(names):
@@ -371,6 +372,16 @@ class ScreensOfABook(Case):
             if value != "a":
                 self.assertIs(value in screens, False)
 
+    def test_a_value_that_is_equal_to_any(self):
+        screens, any_value = Screens(line(), ["a", "b"]), Anything()
+        self.assertIs(any_value in screens, False)
+        with self.assertRaises(UnknownDeal):
+            screens.screen_of(any_value)
+        for judge in (is_crowd, is_chain):
+            self.same([judge(line(), any_value), judge(line(), [any_value])], [False, False])
+        self.same([is_roster(line(), ["a"], any_value), is_roster(line(), ["a"], [[any_value]])], [False, False])
+        self.assertIs(is_at_most_paper(line(), [], ([], any_value, any_value, [])), False)
+
     def test_screen_of_any_value(self):
         screens = Screens(line(), ["a", "b"])
         for value in ODD_VALUES + ["c", "z", ["a"], ("a",)]:
@@ -384,7 +395,7 @@ class ScreensOfABook(Case):
     def test_never_changes(self):
         names = ["a", "b", "c"]
         screens = Screens(line(), names)
-        told = screens.paper()
+        told = copy.deepcopy(screens.paper())
         names.clear()
         other = screens.paper()
         other[0].clear(), other[1].clear(), other[3][0].clear(), other[3].clear()

@@ -63,21 +63,40 @@ STAGE_4 = '''
 [True, False]
 '''
 
-# Of this example only what needs letdays.keeping alone.
 STAGE_5 = '''
+>>> from letdays.buying import Back, least_back, loads, premium, sides, to_buy
 >>> from letdays.keeping import chain_price, charge, dearest_chain
 >>> calendar = Calendar(["x"], [("day", "x", 0), ("x", "day", 30)])
 >>> early = Deal("a", "hale", ["f"], ["l"], ["hall"], ("x", 0), ("x", 9), price=3)
 >>> late = Deal("b", "iver", ["f"], ["l"], ["hall"], ("x", 10), ("x", 19), price=4)
 >>> fixed = Deal("c", "hale", ["f"], ["l"], ["hall"], ("day", 12), ("day", 20), price=5)
 >>> book = Book(calendar, [early, late, fixed])
+>>> [least_back(book), sides(book), premium(book, "c"), sum(loads(book).values()), to_buy(book, fixed.named("d"))]
+[['c'], (['a', 'b'], ['c']), 2, 5, ['a', 'b', 'c']]
 >>> cell = ("f", "l", "hall")
 >>> [chain_price(book, cell), dearest_chain(book, cell), sum([number for crowd, number in charge(book, cell)])]
 [7, ['a', 'b'], 7]
+>>> [Back(book, ["a"]).is_enough(), Back(book, ["b", "a"]) | Back(book, ["c"])]
+[False, Back(['a', 'b', 'c'])]
 '''
 
+STAGE_6 = '''
+>>> from letdays.boxes import greatest_boxes, least_delay
+>>> from letdays.windows import Window, barred, earliest, held, room_at
+>>> calendar = Calendar(["s"], [("day", "s", 0), ("s", "day", 100)])
+>>> hall = Deal("x", "h", ["f"], ["l"], ["w"], ("s", 0), ("s", 9))
+>>> book = Book(calendar, [hall])
+>>> [barred(book, "x", "s"), barred(book, "x", "day"), held(book, "x", "s"), held(book, "x", "day")]
+[(0, 9), (0, 109), (0, 9), None]
+>>> [earliest(book, ("f", "l", "w"), ("day", 0), 5), room_at(book, ("f", "l", "w"), ("s", -3)), (-Window([(0, 9)]) + 1).stretches]
+[110, 3, [(None, 0), (11, None)]]
+>>> greatest_boxes(book, "f", ["l", "k"], ["w"], "s")
+[(('k',), ('w',), (None, None)), (('k', 'l'), ('w',), (None, -1)), (('k', 'l'), ('w',), (10, None))]
+>>> least_delay(book, Deal("y", "g", ["f"], ["l"], ["w"], ("s", 0), ("s", 4)))
+10
+'''
 
-STAGES = [STAGE_1, STAGE_2, STAGE_3, STAGE_4, STAGE_5]
+STAGES = [STAGE_1, STAGE_2, STAGE_3, STAGE_4, STAGE_5, STAGE_6]
 
 
 class Examples(unittest.TestCase):
@@ -103,3 +122,6 @@ class Examples(unittest.TestCase):
 
     def test_stage_5(self):
         self.run_examples(5)
+
+    def test_stage_6(self):
+        self.run_examples(6)

@@ -5,8 +5,8 @@ from letdays.calendars import Calendar
 from letdays.errors import InvalidCell
 from letdays.keeping import (Priced, charge, chain_price, cover, crowd_price, dearest_chain, dearest_crowd, is_charge,
                              is_cover)
-from tests.support import Case, ODD_VALUES, ahead_by_hand, chains_by_hand, crowds_by_hand, deal, numbers, open_books
-from tests.support import small_books, wrong_cells
+from tests.support import Anything, Case, ODD_VALUES, ahead_by_hand, chains_by_hand, crowds_by_hand, deal, numbers
+from tests.support import open_books, small_books, wrong_cells
 
 CELL = ("f", "x", "w")
 NONE = ("f", "z", "w")
@@ -253,6 +253,7 @@ class PricedCells(Case):
         for value in ODD_VALUES + [["a"], ("a", "b"), line()["a"], CELL]:
             if value != "a":
                 self.assertIs(value in priced, False)
+        self.assertIs(Anything() in priced, False)
 
     def test_equal(self):
         self.assertIs(Priced(line(), CELL) == Priced(line(), CELL), True)

@@ -7,8 +7,8 @@ from letdays.calendars import Calendar
 from letdays.errors import InvalidNames, UnknownDeal
 from letdays.order import (Order, ahead_row, all_ahead, all_behind, direct_pairs, in_sequence, is_ahead, is_ahead_row,
                            least_gap)
-from tests.support import Case, ODD_VALUES, ahead_by_hand, bound_by_hand, deal, is_row_by_hand, lots_of, open_books
-from tests.support import point_day, rows_by_hand, small_books, total, wrong_names
+from tests.support import Anything, Case, ODD_VALUES, ahead_by_hand, bound_by_hand, deal, is_row_by_hand, lots_of
+from tests.support import open_books, point_day, rows_by_hand, small_books, total, wrong_names
 
 BIG = 10 ** 29
 
@@ -226,6 +226,13 @@ class Orders(Case):
         for value in ODD_VALUES:
             for pair in (value, (value, "b"), ("a", value), (value, value)):
                 self.assertIs(pair in order, pair == ("a", "b"))
+
+    def test_a_value_that_is_equal_to_any(self):
+        order, any_value = Order(line()), Anything()
+        for value in (any_value, (any_value, "b"), ("a", any_value), (any_value, any_value)):
+            self.assertIs(value in order, False)
+        with self.assertRaises(UnknownDeal):
+            order[any_value]
 
     def test_item(self):
         order = Order(line())

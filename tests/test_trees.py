@@ -4,7 +4,7 @@ from letdays.books import Book
 from letdays.calendars import Calendar
 from letdays.errors import TooMany
 from letdays.together import is_quiet, is_tree, open_pairs, quiet_dates, tree
-from tests.support import Case, ODD_VALUES, ahead_by_hand, deal, keeps, open_books, open_by_hand, point_day
+from tests.support import Anything, Case, ODD_VALUES, ahead_by_hand, deal, keeps, open_books, open_by_hand, point_day
 from tests.support import small_books, total
 
 YEAR = Calendar(["show"], [("show", "day", 40), ("day", "show", -10)])
@@ -211,6 +211,15 @@ class Told(Case):
                            (value, value, value, value), (one, other, value, value)):
                 if spoilt != RIGHT:
                     self.assertIs(is_tree(year(), spoilt), False, spoilt)
+
+    def test_a_value_that_is_equal_to_any(self):
+        one, other, first, second = RIGHT
+        any_value = Anything()
+        for value in (any_value, (any_value, other, first, second), (one, any_value, first, second),
+                      (one, other, [any_value], second), (one, other, [(any_value, "day", -41)], second),
+                      (one, other, [("day", any_value, -41)], second),
+                      (one, other, [("day", "day", any_value)], second)):
+            self.assertIs(is_tree(year(), value), False)
 
     def test_true_is_not_one(self):
         clauses = [("day", "m", 1), ("m", "day", 3)]
