@@ -181,9 +181,9 @@ def odd_ring(book):
 
 
 def paths_by(names, pairs):
-    """For each name a shortest list by pairs from the least name that hangs together with it."""
+    """For each of the sorted names a shortest list by pairs from the least name that hangs together with it."""
     paths = {}
-    for name in sorted(names):
+    for name in names:
         if name not in paths:
             further = paths_from(name, pairs)
             for other in further:

@@ -345,6 +345,11 @@ class Boxes(Case):
             self.assertIs(is_free_box(book, "f", (("x",), ("w",), (value, -1)), "s"),
                           value is None or (type(value) is int and value == -1))
 
+    def test_alone_or_beside(self):
+        book, box = Book(line().calendar, [line()["x"].beside()]), (("x",), ("w",), (0, 9))
+        self.same([is_free_box(book, "f", box, "s"), is_free_box(book, "f", box, "s", True)], [False, False])
+        self.assertIs(is_free_box(book, "f", box, "s", False), True)
+
     def test_returned_values_are_new(self):
         book, lands, ways = line(), ["y", "x"], ["w", "v"]
         first = greatest_boxes(book, "f", lands, ways, "s")

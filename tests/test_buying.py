@@ -205,6 +205,8 @@ class RingsOfPairs(Case):
                 self.assertIs(is_odd_ring(book, names), False)
             else:
                 self.same([sides(book), loads(book), sorted(odd_ring(book))], [None, None, names])
+                self.assertIn(odd_ring(book), odd_rings_by_hand(book, pairs) if count < 9 else [odd_ring(book)])
+                self.assertIs(is_odd_ring(book, odd_ring(book)), True)
                 for turn in range(count):
                     self.assertIs(is_odd_ring(book, names[turn:] + names[:turn]), True)
                     self.assertIs(is_odd_ring(book, tuple(names[turn:] + names[:turn])[::-1]), True)

@@ -224,7 +224,15 @@ class Ends(Case):
             self.same([is_clearing(one, cell, ("s", 5), {}, alone), is_clearing(one, cell, ("s", 5), {"x": []}, alone)],
                       [True, False])
             self.assertIs(is_bar(one, cell, ("s", 5), ("x", {"s": 0}), alone), False)
-        self.same(free_stretches(book, CELL, "s"), [(None, -1), (10, None)])
+        self.check_alone_unless_told(book)
+
+    def check_alone_unless_told(self, book):
+        self.same([free_stretches(book, CELL, "s"), taken_stretches(book, CELL, "s")],
+                  [[(None, -1), (10, None)], [(0, 9)]])
+        self.same([is_free(book, CELL, ("s", 5)), room_at(book, CELL, ("s", 5)), earliest(book, CELL, ("s", 5), 1)],
+                  [False, 0, 10])
+        self.same([bar_at(book, CELL, ("s", 5))[0], clearing_at(book, CELL, ("s", 5))], ["x", None])
+        self.same([is_bar(book, CELL, ("s", 5), ("x", {"s": 0})), is_clearing(book, CELL, ("s", 5), {})], [True, False])
 
     def test_without_ends(self):
         book = Book(Calendar(["s"], []), [deal("x", ("s", 0), ("s", 9))])
@@ -376,6 +384,7 @@ class Wrong(Case):
             for value in ODD_VALUES + ["s", ("s",), ["s", 0], ("m", 0), ("s", True), ("s", "0"), (0, "s"), ("s", 0, 0),
                                        ("day", None), (None, 0), ("x", 0)]:
                 self.raised(InvalidPoint, lambda: call(line(), CELL, value), value=value)
+                self.raised(InvalidPoint, lambda: call(line(), NONE, value), value=value)
 
     def test_numbers_of_days(self):
         for value in odd_but(int) + [0, -1, -BIG, "1"]:
