@@ -246,7 +246,7 @@ def wide_books(seed, count):
 class Boxes(Case):
     def test_against_all_boxes(self):
         most = 0
-        for book, every in wide_books(181, 25):
+        for book, every in wide_books(181, 12):
             for moment in ("m", ZERO):
                 for lands, ways in ((["x", "y", "z"], ["v", "w"]), (["z", "x"], ["w"]), (("q",), ("w", "u"))):
                     for alone in (True, False):
@@ -256,7 +256,7 @@ class Boxes(Case):
                             self.same(greatest_boxes(book, "f", *asked, moment, alone), expected)
                         for box in expected:
                             self.assertIs(is_free_box(book, "f", box, moment, alone), True)
-        self.assertGreater(most, 10)
+        self.assertGreater(most, 5)
 
     def test_is_free_box(self):
         told = [0, 0]

@@ -78,7 +78,7 @@ class AgainstAllDates(Case):
         self.assertGreater(min(told), 50)
 
     def test_free_and_taken(self):
-        for book, every, moment, cell, alone in cases(small_books(152, 25)):
+        for book, every, moment, cell, alone in cases(small_books(152, 10)):
             deals = counting(book, cell, alone)
             barred_ones = [number for number in WIDE
                            if any(are_on(book, one, dates, moment, number) for one in deals for dates in every)]
