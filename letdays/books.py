@@ -132,6 +132,15 @@ def check_deals(calendar, deals):
         names.append(deals[at].name)
 
 
+def with_own_clauses(book, names):
+    """The calendar of the book with the own clauses of these deals as further clauses, by sorted names."""
+    calendar = book.calendar
+    for name in sorted(names):
+        own = book[name].own_clause()
+        calendar = calendar if own is None else calendar.with_clause(own)
+    return calendar
+
+
 def all_clauses(calendar, deals):
     """The clauses of the calendar, then the own clauses of the deals, each once."""
     clauses = calendar.clauses()

@@ -1,10 +1,10 @@
 """Boxes: by how many days an offer can be moved, and what lands, ways and days are free together."""
 
-from letdays.checks import check_integer, check_moment, check_name, check_some_names
+from letdays.checks import check_dates_with, check_integer, check_moment, check_name, check_some_names
 from letdays.books import is_deal_for
 from letdays.deals import check_sizes
-from letdays.errors import InvalidDeal, NoDates
-from letdays.networks import dates_in, nearest
+from letdays.errors import InvalidDeal
+from letdays.networks import nearest
 from letdays.stretches import first_room, is_stretch, is_within
 from letdays.values import are_names, are_sorted, lots_of
 from letdays.windows import Window, barred_by
@@ -41,21 +41,21 @@ def check_offer(book, offer):
 
 def check_offer_dates(book, offer):
     """Raise NoDates unless there are dates of the book that keep the offer's own clause."""
-    if dates_in(book.calendar.moments(), clauses_with(book, offer)) is None:
-        raise NoDates()
+    check_dates_with(book, own_clauses_of(offer))
 
 
-def clauses_with(book, offer):
-    """The clauses of the book and the own clause of the offer; there may be more of them than a calendar has."""
+def own_clauses_of(offer):
+    """The list of the own clause of the offer, if it has one."""
     own = offer.own_clause()
-    return book.clauses() if own is None else book.clauses() + [own]
+    return [] if own is None else [own]
 
 
 def delays_barred(book, deal, offer):
     """The stretch of the delays of the offer that the deal bars; None if it bars none."""
     if deal.name == offer.name or not deal.touches(offer):
         return None
-    clauses = clauses_with(book, offer)
+    # These may be more clauses than a calendar has.
+    clauses = book.clauses() + own_clauses_of(offer)
     moments = book.calendar.moments()
     most = most_days(moments, clauses, offer.end, deal.begin)
     return (None if most is None else -most, most_days(moments, clauses, deal.end, offer.begin))

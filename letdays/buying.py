@@ -1,7 +1,7 @@
 """What has to be bought back so that no two deals can clash, and what it costs."""
 
 from letdays.checks import check_deal_of, check_names_of
-from letdays.books import Book
+from letdays.books import Book, with_own_clauses
 from letdays.errors import InvalidPaper
 from letdays.flows import greatest_amounts
 from letdays.together import open_pairs
@@ -93,10 +93,7 @@ class Back:
 
     def left(self):
         """The book without these deals; their own clauses are further clauses of its calendar."""
-        calendar = self._book.calendar
-        for name in self._bought:
-            own = self._book[name].own_clause()
-            calendar = calendar if own is None else calendar.with_clause(own)
+        calendar = with_own_clauses(self._book, self._bought)
         return Book(calendar, [deal for deal in self._book if deal.name not in self._bought])
 
     def __or__(self, other):
@@ -144,14 +141,33 @@ def is_loads(book, value):
 
 def loads(book):
     """Loads with the price of the least back as their total; None of a book without sides."""
-    parts = sides(book)
-    if parts is None:
-        return None
-    first, second = [{name: book[name].price for name in names} for names in parts]
-    # Each pair leads from the first side to the second one.
-    links = {pair: pair if pair[0] in first else pair[::-1] for pair in open_pairs(book)}
-    amounts = greatest_amounts(first, second, [links[pair] for pair in links])
-    return {pair: amounts[links[pair]] for pair in links}
+    return None if sides(book) is None else full_loads(book)
+
+
+def full_loads(book):
+    """Loads with the price of the least back as their total; None if there are none.
+
+    Such loads have for each name of a least back just its price, and none of a pair with both names in it.
+    So only the pairs with one name in it are to be looked at, whether the book has sides or not.
+    """
+    back = least_back(book)
+    inner = {name: book[name].price for name in back}
+    outer = {name: book[name].price for name in book.names() if name not in inner}
+    pairs = open_pairs(book)
+    links = {pair: pair if pair[0] in inner else pair[::-1] for pair in pairs if not are_all_in(inner, pair)}
+    amounts = greatest_amounts(inner, outer, [links[pair] for pair in links])
+    found = {pair: amounts[links[pair]] if pair in links else 0 for pair in pairs}
+    return found if total_of(found) == price_of(book, back) else None
+
+
+def are_all_in(table, names):
+    """Whether each of the names is a key of the table."""
+    return all([name in table for name in names])
+
+
+def total_of(amounts):
+    """The sum of all numbers of a dict."""
+    return sum([amounts[key] for key in amounts])
 
 
 def sides(book):

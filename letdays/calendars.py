@@ -1,7 +1,7 @@
 """Calendars: moments, and the clauses that are known of their days."""
 
-from letdays.errors import InvalidCalendar, InvalidClauses, InvalidMoment, InvalidMoments, InvalidNumber
-from letdays.errors import NoDates, TooMany
+from letdays.checks import check_integer, check_position
+from letdays.errors import InvalidCalendar, InvalidClauses, InvalidMoment, InvalidMoments, NoDates, TooMany
 from letdays.networks import dates_in, ring_in, sum_of
 from letdays.values import day_of, first_wrong_name, is_integer, is_list, is_moment, is_moment_of
 
@@ -104,16 +104,14 @@ class Calendar:
 
     def without(self, position):
         """The calendar without the clause at a position."""
-        if not is_integer(position) or not 0 <= position < len(self._clauses):
-            raise InvalidNumber(position)
+        check_position(position, len(self._clauses))
         return Calendar(self._moments, self._clauses[:position] + self._clauses[position + 1:])
 
     def known(self, moment, day):
         """The calendar with the two clauses that say that the moment is on the day."""
         if not is_moment_of(moment, self._moments) or moment == Calendar.ZERO:
             raise InvalidMoment(moment)
-        if not is_integer(day):
-            raise InvalidNumber(day)
+        check_integer(day)
         return self.with_clause((moment, Calendar.ZERO, day)).with_clause((Calendar.ZERO, moment, -day))
 
     def __or__(self, other):

@@ -2,6 +2,7 @@
 
 from letdays.errors import InvalidCell, InvalidDates, InvalidMoment, InvalidName, InvalidNames, InvalidNumber
 from letdays.errors import InvalidPoint, NoDates, UnknownDeal
+from letdays.networks import dates_in
 from letdays.values import first_wrong_name, is_cell, is_count, is_integer, is_list, is_moment_of, is_name
 from letdays.values import is_point_of
 
@@ -16,6 +17,12 @@ def check_count(value):
     """Raise InvalidNumber unless this is a COUNT."""
     if not is_count(value):
         raise InvalidNumber(value)
+
+
+def check_position(position, many):
+    """Raise InvalidNumber unless this is the position of one of so many."""
+    if not is_integer(position) or not 0 <= position < many:
+        raise InvalidNumber(position)
 
 
 def check_name(value):
@@ -67,6 +74,12 @@ def check_dates_of(book, dates):
     """Raise InvalidDates unless these are dates of the book."""
     if dates not in book.full():
         raise InvalidDates(dates)
+
+
+def check_dates_with(book, clauses):
+    """Raise NoDates unless some dates of the book keep these further clauses."""
+    if dates_in(book.calendar.moments(), book.clauses() + clauses) is None:
+        raise NoDates()
 
 
 def check_names_of(book, names):

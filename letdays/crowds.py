@@ -2,11 +2,11 @@
 
 from letdays.chains import are_names_of, chains_over, heaviest_chain, heaviest_crowd, heights_by
 from letdays.chains import is_chain_of, is_crowd_of
-from letdays.checks import check_dates_of, check_integer, check_names_of
-from letdays.errors import InvalidNumber, UnknownDeal
+from letdays.checks import check_dates_of, check_integer, check_names_of, check_position
+from letdays.errors import UnknownDeal
 from letdays.order import ahead_pairs
 from letdays.together import all_on, is_together_paper
-from letdays.values import is_integer, is_list, is_name
+from letdays.values import is_list, is_name
 
 
 def is_crowd(book, value):
@@ -122,8 +122,7 @@ class Screens:
         raise UnknownDeal(name)
 
     def __getitem__(self, at):
-        if not is_integer(at) or not 0 <= at < len(self._paper[3]):
-            raise InvalidNumber(at)
+        check_position(at, len(self._paper[3]))
         return list(self._paper[3][at])
 
     def __iter__(self):

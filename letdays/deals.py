@@ -180,6 +180,11 @@ class Deal:
         return f"{told}, alone={self._alone!r}, price={self._price!r}"
 
 
+def deal_like(deal, lands, begin, end):
+    """The deal with these lands and points, and all else as it is."""
+    return Deal(deal.name, deal.house, deal.films, lands, deal.ways, begin, end, alone=deal.alone, price=deal.price)
+
+
 def check_points(begin, end):
     """Raise InvalidPoint unless these are points, the begin not behind the end if both are of one moment."""
     if not is_point(begin):

@@ -69,14 +69,25 @@ def in_sequence(book, names):
 
 def ahead_pairs(book):
     """The sorted list of the tuples of names of which the first one is surely ahead of the second one."""
-    most = bounds(book.full())
-    return [(one.name, other.name) for one in book for other in book if is_before(most, one.end, other.begin)]
+    return list(least_gaps(book))
 
 
-def is_before(most, point, other):
-    """Whether by these bounds the point is ahead of the other one in all dates."""
-    far = 0 if point[0] == other[0] else most[(point[0], other[0])]
-    return far is not None and far + point[1] - other[1] < 0
+def least_gaps(book):
+    """The dict from the tuples (one, other) of names, one surely ahead of the other, to their least gaps; sorted."""
+    table = bounds(book.full())
+    found = {}
+    for one in book:
+        for other in book:
+            most = most_by(table, one.end, other.begin)
+            if most is not None and most < 0:
+                found[(one.name, other.name)] = -most - 1
+    return found
+
+
+def most_by(table, point, other):
+    """The greatest number of days, by these bounds, by which the point is behind the other one; None without one."""
+    most = 0 if point[0] == other[0] else table[(point[0], other[0])]
+    return None if most is None else most + point[1] - other[1]
 
 
 class Order:

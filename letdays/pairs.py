@@ -45,7 +45,11 @@ def apart_paper(book, one, other):
 
 def together_paper(book, one, other):
     """Dates and a day on which both deals are on; None if there are none."""
-    first, second = book[one], book[other]
+    return both_on(book, book[one], book[other])
+
+
+def both_on(book, first, second):
+    """Dates of the book and a day on which both deals are on, which need not be deals of it; None if there are none."""
     asked = [clause_between(first.begin, second.end), clause_between(second.begin, first.end)]
     dates = dates_in(book.calendar.moments(), book.clauses() + asked)
     if dates is None:

@@ -64,9 +64,9 @@ def are_names(values):
     return all([is_name(value) for value in values])
 
 
-def are_sorted(names):
-    """Whether each of the names is behind the one before it."""
-    return all([names[at - 1] < names[at] for at in range(1, len(names))])
+def are_sorted(values):
+    """Whether each of these names, or numbers, is greater than the one before it."""
+    return all([values[at - 1] < values[at] for at in range(1, len(values))])
 
 
 def lots_of(names):
