@@ -224,13 +224,39 @@ def chains_by_hand(names, ahead):
     return found
 
 
-def open_by_hand(book, ahead):
-    """The sorted list of the open pairs."""
+def touching_by_hand(book):
+    """The sorted list of the tuples of names, one less than the other, of deals that touch."""
     def touch(one, other):
         return any(cell in other.cells() for cell in one.cells()) and (one.alone or other.alone)
-    return [(one.name, other.name) for one in book for other in book
-            if one.name < other.name and touch(one, other)
-            and (one.name, other.name) not in ahead and (other.name, one.name) not in ahead]
+    return [(one.name, other.name) for one in book for other in book if one.name < other.name and touch(one, other)]
+
+
+def open_by_hand(book, ahead):
+    """The sorted list of the open pairs."""
+    return [(one, other) for one, other in touching_by_hand(book)
+            if (one, other) not in ahead and (other, one) not in ahead]
+
+
+def days_by_hand(dates, one):
+    """The set of the days on which a deal is on in dates."""
+    return set(range(point_day(dates, one.begin), point_day(dates, one.end) + 1))
+
+
+def clashing_by_hand(book, every):
+    """The sorted list of the tuples of names of deals that clash in some of these dates."""
+    return [(one, other) for one, other in touching_by_hand(book)
+            if any(days_by_hand(dates, book[one]) & days_by_hand(dates, book[other]) for dates in every)]
+
+
+def safe_books(seed, count, names="abc"):
+    """Books with the moments m and n, each with all its dates, that are safe; deals of them touch."""
+    found = []
+    while len(found) < count:
+        for book, every in small_books(seed, 60, names, 6):
+            if touching_by_hand(book) and not clashing_by_hand(book, every):
+                found.append((book, every))
+        seed += 1000
+    return found[:count]
 
 
 def wrong_names(names):
