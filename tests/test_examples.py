@@ -96,10 +96,73 @@ STAGE_6 = '''
 10
 '''
 
-STAGES = [STAGE_1, STAGE_2, STAGE_3, STAGE_4, STAGE_5, STAGE_6]
+STAGE_7 = '''
+>>> from letdays.changes import can_be_ahead, days_of, learnt
+>>> from letdays.rights import is_safe_with, play, rooms, slacks, tight_pair
+>>> early = Deal("early", "h", ["f"], ["de"], ["hall"], ("p", 0), ("p", 29))
+>>> disc = Deal("disc", "h", ["f"], ["de"], ["hall"], ("p", 40), ("p", 50))
+>>> net = Deal("net", "k", ["f"], ["de"], ["hall"], ("q", 0), ("q", 10))
+>>> row = Book(Calendar(["p", "q"], [("day", "p", 0), ("p", "q", -60)]), [early, disc, net])
+>>> [slacks(row), rooms(row)["disc"], play(row, 1), tight_pair(row, 1), play(row, 0)]
+[{('disc', 'net'): 9, ('early', 'disc'): 10, ('early', 'net'): 30}, (10, 9), 9, ('disc', 'net'), None]
+>>> [is_safe_with(row, {"early": (0, 4), "disc": (6, 9)}), is_safe_with(row, {"early": (0, 5), "disc": (6, 0)}), can_be_ahead(row, "net", "disc")]
+[True, False, False]
+>>> [days_of(row, "q"), days_of(learnt(row, "q", 75), "p")]
+[(60, None), (0, 15)]
+'''
+
+STAGE_8 = '''
+>>> from letdays.lots import Lots, choice, cut, is_sure, left
+>>> from letdays.turns import stuck, turns
+>>> lots = Lots([("x", ["f", "g"], 1), ("y", ["g", "h"], 1), ("z", ["f", "g", "h"], 1)])
+>>> [left(lots, "z", ["x", "y"]), is_sure(lots, "z", ["x", "y"]), is_sure(lots, "x", ["y", "z"]), stuck(lots)]
+[1, True, False, None]
+>>> [list(turns(lots)), choice(Lots([("x", ["f"], 1), ("y", ["f"], 1)])), cut(Lots([("x", ["f"], 1), ("y", ["f"], 1)]))]
+[[['x', 'y', 'z'], ['y', 'x', 'z']], None, ['x', 'y']]
+'''
+
+STAGE_9 = r'''
+>>> from letdays.claims import is_true
+>>> from letdays.desk import Desk
+>>> from letdays.texts import line_of, read_book, text_of
+>>> lines = ["deal a hale f l hall x 0 x 9 alone 3", "deal b iver f l hall x 10 x 19 alone 4", "deal c hale f l hall day 12 day 20 alone 5"]
+>>> text = "".join([line + "\n" for line in ["moments x", "clause day x 0", "clause x day 30"] + lines])
+>>> book = read_book(text)
+>>> desk = Desk(book)
+>>> [text_of(book) == text, desk.do("word a b"), desk.do("price"), desk.do("bound x day"), desk.do("know x 30"), desk.do("back"), desk.do("undo")]
+[True, 'never', '5', '30', 'done', 'safe', '0']
+>>> [line_of(book["a"]) == lines[0], desk.do("drop c"), desk.do("chain f l hall"), is_true({"claim": "safe", "book": "moments\n"})]
+[True, 'deal c hale f l hall day 12 day 20 alone 5', '7', True]
+'''
+
+STAGES = [STAGE_1, STAGE_2, STAGE_3, STAGE_4, STAGE_5, STAGE_6, STAGE_7, STAGE_8, STAGE_9]
+
+
+OVERVIEW = '''
+>>> from letdays.books import Book
+>>> from letdays.calendars import Calendar
+>>> from letdays.deals import Deal
+>>> from letdays.pairs import word
+>>> from letdays.together import is_together_paper
+>>> calendar = Calendar(["first"], [("first", "day", 40), ("day", "first", -10)])
+>>> halls = Deal("halls", "h", ["f"], ["l"], ["hall"], ("first", 0), ("first", 29))
+>>> discs = Deal("discs", "h", ["f"], ["l"], ["disc"], ("first", 30), ("day", 100))
+>>> net = Deal("net", "h", ["f"], ["l"], ["net"], ("day", 60), ("day", 90))
+>>> book = Book(calendar, [halls, discs, net])
+>>> [word(book, "halls", "discs"), word(book, "discs", "net"), word(book, "halls", "net")]
+['never', 'surely', 'perhaps']
+>>> [is_together_paper(book, ["halls", "net"], ({"first": day}, 60)) for day in (30, 31, 32, 40, 41)]
+[False, True, True, True, False]
+'''
 
 
 class Examples(unittest.TestCase):
+    def test_overview(self):
+        told = []
+        test = doctest.DocTestParser().get_doctest(OVERVIEW, {}, "DOC.md", "DOC.md", 0)
+        failed, tried = doctest.DocTestRunner(verbose=False).run(test, out=told.append)
+        self.assertEqual((failed, tried), (0, 12), "".join(told))
+
     def run_examples(self, count):
         """Run so many stages, one behind another: names stand for what they were in the last example."""
         told = []
@@ -125,3 +188,12 @@ class Examples(unittest.TestCase):
 
     def test_stage_6(self):
         self.run_examples(6)
+
+    def test_stage_7(self):
+        self.run_examples(7)
+
+    def test_stage_8(self):
+        self.run_examples(8)
+
+    def test_stage_9(self):
+        self.run_examples(9)
