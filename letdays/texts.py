@@ -42,7 +42,7 @@ def number_in(word):
 def deal_in(line):
     """The deal of any line; None for any value that is no line of one."""
     words = line.split(" ") if isinstance(line, str) else []
-    if len(words) != DEAL_WORDS or words[0] != "deal" or words[10] not in HOWS:
+    if len(words) != DEAL_WORDS:
         return None
     films, lands, ways = [part.split(",") for part in words[3:6]]
     begin, end = (words[6], number_in(words[7])), (words[8], number_in(words[9]))
@@ -51,7 +51,7 @@ def deal_in(line):
         deal = Deal(words[1], words[2], films, lands, ways, begin, end, alone=alone, price=price)
     except (DaysError, LimitError):
         return None
-    # What is not in the sequence of the text has another line.
+    # Words that cannot stand there, and names that are not sorted, are not in the line of the deal.
     return deal if line_of(deal) == line else None
 
 

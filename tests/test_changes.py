@@ -183,7 +183,8 @@ class PutAhead(Case):
         self.same(len(found.clauses()), 40)
         self.raised(NoDates, lambda: put_ahead(found, "b", "a"))
         full = Book(Calendar(["m"], [("m", "day", at) for at in range(40)]),
-                    [deal("a", ("m", 0), ("m", 3)), deal("b", ("day", 1), ("day", 5)), deal("c", ("m", -60), ("m", -50)),
+                    [deal("a", ("m", 0), ("m", 3)), deal("b", ("day", 1), ("day", 5)),
+                     deal("c", ("m", -60), ("m", -50)),
                      deal("d", ("day", -9), ("day", -8))])
         self.raised(TooMany, lambda: put_ahead(full, "a", "b"), what="clauses", limit=40)
         self.same(can_be_ahead(full, "a", "b"), True)
@@ -288,6 +289,7 @@ class SplitLand(Case):
             self.raised(InvalidNames, split((value, value)), position=0)
             self.raised(InvalidNames, split(["u", value]), position=1)
         self.raised(InvalidNames, split(["u", "u"]), position=1)
+        self.raised(InvalidNames, lambda: split_land(lands(), "y", ["u", "u"]), position=1)
         self.raised(InvalidNames, split(["x", "u", "u"]), position=None)
 
     def test_behind_an_error_all_is_as_it_was(self):

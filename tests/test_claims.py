@@ -24,7 +24,8 @@ def plain():
     """A book of which a is never on with c, perhaps with b, surely with d; c and d have another land."""
     calendar = Calendar(["m"], [("day", "m", 0), ("m", "day", 5)])
     return Book(calendar, [deal("a", ("m", 0), ("m", 9), price=3), deal("b", ("day", 12), ("day", 20), price=4),
-                           deal("c", ("m", 10), ("m", 20), "xy", price=5), deal("d", ("day", 5), ("day", 5), "y", price=0)])
+                           deal("c", ("m", 10), ("m", 20), "xy", price=5),
+                           deal("d", ("day", 5), ("day", 5), "y", price=0)])
 
 
 def every_claim(book, most):
@@ -43,14 +44,16 @@ def price(book, names):
 
 
 def back_price(book, pairs):
-    return min(price(book, lot) for lot in lots_of(book.names()) if all(one in lot or other in lot for one, other in pairs))
+    backs = [lot for lot in lots_of(book.names()) if all(one in lot or other in lot for one, other in pairs)]
+    return min(price(book, back) for back in backs)
 
 
 def is_true_by_hand(book, every, told):
     """Whether the claim is true, by all dates of the book."""
     kind = told["claim"]
     if kind in ("never", "may", "surely"):
-        days = [days_by_hand(dates, book[told["pair"][0]]) & days_by_hand(dates, book[told["pair"][1]]) for dates in every]
+        one, other = (book[name] for name in told["pair"])
+        days = [days_by_hand(dates, one) & days_by_hand(dates, other) for dates in every]
         return {"never": not any(days), "may": any(days), "surely": all(days)}[kind]
     clashes = clashing_by_hand(book, every)
     if kind in ("safe", "unsafe"):
@@ -103,9 +106,11 @@ def is_paper_by_hand(book, told, value):
         pairs = open_by_hand(book, ahead)
         if value[1] is None:
             return not has_loads_by_hand(book, pairs, told["least"])
-        used = {name: sum(value[1][pair] for pair in pairs if name in pair) for name in book.names()}
-        return list(value[1]) == pairs and sum(value[1].values()) == told["least"] == price(book, value[0]) and all(
-            used[name] <= book[name].price for name in used) and all(one in value[0] or other in value[0] for one, other in pairs)
+        back, loads = value
+        used = {name: sum(loads[pair] for pair in pairs if name in pair) for name in book.names()}
+        is_cheap = list(loads) == pairs and all(used[name] <= book[name].price for name in used)
+        is_one = all(one in back or other in back for one, other in pairs)
+        return is_cheap and is_one and sum(loads.values()) == told["least"] == price(book, back)
     names = book.at(told["cell"])
     if kind == "crowd":
         crowd, dates, day, roster = value
@@ -146,7 +151,8 @@ class AgainstAllDates(Case):
 
     def test_books_without_deals(self):
         for book in (Book(Calendar([], []), []), Book(Calendar(["m"], [("m", "day", 3)]), [])):
-            for value, paper in ((claim("safe", book), {}), (claim("crowd", book, cell=CELL, most=0), ([], None, None, [])),
+            for value, paper in ((claim("safe", book), {}), (claim("crowd", book, cell=CELL, most=0),
+                                                             ([], None, None, [])),
                                  (claim("price", book, least=0), ([], {})), (claim("dearest", book, cell=CELL, price=0),
                                                                             ([], []))):
                 self.same([is_true(value), paper_for(value), is_paper(value, paper)], [True, paper, True])
@@ -173,7 +179,8 @@ class AgainstAllDates(Case):
 
     def test_false_claims_have_no_paper(self):
         book = plain()
-        papers = [paper_for(value) for value in every_claim(book, 12) if is_true(value)] + [([], {}), ([], []), {}, (["c"], None)]
+        papers = [paper_for(value) for value in every_claim(book, 12) if is_true(value)]
+        papers += [([], {}), ([], []), {}, (["c"], None)]
         for value in [value for value in every_claim(book, 12) if not is_true(value)]:
             for paper in papers + ODD_VALUES:
                 self.assertIs(is_paper(value, paper), False)
@@ -255,14 +262,17 @@ class Spoilt(Case):
             self.spoil(claim("never", plain(), pair=pair), [("a", "c", []), ("a", "c", ())],
                        [("c", "a", []), ("a", "b", []), ("a", "c", [("day", "m", 0)]), ("a", "a", []), ("a", "z", [])])
         far = plain().with_calendar(Calendar(["m"], [("day", "m", -40), ("day", "m", -50)]))
-        self.spoil(claim("never", far, pair=["a", "b"]), [("b", "a", [("day", "m", -40)]), ("b", "a", (("day", "m", -50),))],
+        self.spoil(claim("never", far, pair=["a", "b"]), [("b", "a", [("day", "m", -40)]),
+                                                          ("b", "a", (("day", "m", -50),))],
                    [("b", "a", []), ("b", "a", [("day", "m", 0)]), ("b", "a", [["day", "m", -40]]), ("a", "b", []),
-                    ("b", "a", [("day", "m", -40)] * 2), ("b", "a", ("day", "m", -40)), ("a", "b", [("day", "m", -40)])])
+                    ("b", "a", [("day", "m", -40)] * 2), ("b", "a", ("day", "m", -40)),
+                    ("a", "b", [("day", "m", -40)])])
 
     def test_may(self):
         for pair in (["a", "b"], ("b", "a")):
             self.spoil(claim("may", plain(), pair=pair), [({"m": 3}, 12), ({"m": 5}, 12), ({"m": 5}, 14)],
-                       [({"m": 2}, 12), ({"m": 3}, 13), ({"m": 6}, 12), ({"m": 3, "n": 0}, 12), ({}, 12), ({"m": True}, 12)])
+                       [({"m": 2}, 12), ({"m": 3}, 13), ({"m": 6}, 12), ({"m": 3, "n": 0}, 12), ({}, 12),
+                        ({"m": True}, 12)])
 
     def test_surely(self):
         right = ([("m", "day", 5)], [("day", "m", 0)])
@@ -278,15 +288,18 @@ class Spoilt(Case):
         for pair in right:
             less = {key: right[key] for key in right if key != pair}
             for wrong in (less, {**less, pair[::-1]: right[pair]}, {**less, pair: right[pair][:2]},
-                          {**less, "ac": right[pair]}, {**less, pair: list(right[pair])}, {**right, ("a", "z"): ("a", "z", [])}):
+                          {**less, "ac": right[pair]}, {**less, pair: list(right[pair])},
+                          {**right, ("a", "z"): ("a", "z", [])}):
                 self.assertIs(is_paper(value, wrong), False, wrong)
             for part in ODD_VALUES + [Anything(), ("b", "a", []), ("a", "a", [])]:
                 self.assertIs(is_paper(value, {**right, pair: part}), False)
         self.assertIs(is_paper(value, {**right, ("a", "c"): ("a", "e", [])}), False)
 
     def test_unsafe(self):
-        self.spoil(claim("unsafe", plain()), [("a", "b", {"m": 3}, 12), ("b", "a", {"m": 5}, 13), ("b", "c", {"m": 5}, 15)],
-                   [("a", "a", {"m": 3}, 5), ("a", "d", {"m": 3}, 5), ("a", "c", {"m": 3}, 12), ("a", "b", {"m": 6}, 12),
+        self.spoil(claim("unsafe", plain()), [("a", "b", {"m": 3}, 12), ("b", "a", {"m": 5}, 13),
+                                              ("b", "c", {"m": 5}, 15)],
+                   [("a", "a", {"m": 3}, 5), ("a", "d", {"m": 3}, 5), ("a", "c", {"m": 3}, 12),
+                    ("a", "b", {"m": 6}, 12),
                     ("a", "z", {"m": 3}, 12), ("a", "b", {"m": 3}, 13), ("a", "b", ({"m": 3}, 12))])
 
     def test_crowd(self):
@@ -300,17 +313,20 @@ class Spoilt(Case):
     def test_dearest(self):
         value = claim("dearest", plain(), cell=CELL, price=8)
         right = (["a", "c"], [(["a", "b"], 3), (["b", "c"], 5)])
-        self.spoil(value, [right, (("a", "c"), ((("a", "b"), 3), (("b", "c"), 5))), (["a", "c"], [(["a", "b"], 3), (["c"], 4),
+        self.spoil(value, [right, (("a", "c"), ((("a", "b"), 3), (("b", "c"), 5))),
+                           (["a", "c"], [(["a", "b"], 3), (["c"], 4),
                    (["b", "c"], 1)])],
                    [(["c", "a"], right[1]), (["a"], right[1]), (["b"], right[1]), (["a", "c"], right[1][:1]),
                     (["a", "c"], [(["a", "b"], 4), (["b", "c"], 5)]), (["a", "c"], [(["b", "a"], 3), (["b", "c"], 5)]),
-                    (["a", "c"], [(["a", "c"], 8)]), (["a", "c", "c"], right[1]), (["a", "c"], [[["a", "b"], 3], (["b", "c"], 5)]),
+                    (["a", "c"], [(["a", "c"], 8)]), (["a", "c", "c"], right[1]),
+                    (["a", "c"], [[["a", "b"], 3], (["b", "c"], 5)]),
                     ([], right[1]), (["a", "c"], [])])
         none = claim("dearest", plain(), cell=("f", "z", "w"), price=0)
         self.spoil(none, [([], []), ((), ())], [(["a"], []), ([], [(["a"], 0)]), ([], [([], 0)]), ([],)])
 
     def test_dearest_of_no_price(self):
-        book = Book(Calendar([], []), [deal("a", ("day", 0), ("day", 1), price=0), deal("b", ("day", 5), ("day", 6), price=0)])
+        book = Book(Calendar([], []), [deal("a", ("day", 0), ("day", 1), price=0),
+                                       deal("b", ("day", 5), ("day", 6), price=0)])
         value = claim("dearest", book, cell=CELL, price=0)
         for paper in ((["a"], []), (["a", "b"], []), (["b"], [(["a"], 0)])):
             self.assertIs(is_paper(value, paper), True)
@@ -321,7 +337,8 @@ class Spoilt(Case):
 
 class Claims(Case):
     right = [claim("never", plain(), pair=["a", "c"]), claim("may", plain(), pair=("c", "b")), claim("safe", plain()),
-             claim("surely", plain(), pair=["a", "d"]), claim("unsafe", plain()), claim("crowd", plain(), cell=CELL, most=9),
+             claim("surely", plain(), pair=["a", "d"]), claim("unsafe", plain()),
+             claim("crowd", plain(), cell=CELL, most=9),
              claim("price", plain(), least=0), claim("dearest", plain(), cell=("z", "z", "z"), price=10 ** 29)]
 
     def wrong(self, value):
@@ -339,7 +356,8 @@ class Claims(Case):
             self.assertIs(is_claim(dict(list(value.items())[::-1])), True)
 
     def test_values_of_any_kind(self):
-        for value in ODD_VALUES + [Anything(), plain(), text_of(plain()), list(self.right[0].items()), {"claim": "safe"},
+        for value in ODD_VALUES + [Anything(), plain(), text_of(plain()), list(self.right[0].items()),
+                                   {"claim": "safe"},
                                    {"book": text_of(plain())}, ("safe", text_of(plain()))]:
             self.wrong(value)
 
@@ -364,13 +382,15 @@ class Claims(Case):
     def test_wrong_texts(self):
         text = text_of(plain())
         for value in self.right:
-            for wrong in ODD_VALUES + [text[:-1], text + "\n", text.replace("alone", "both"), text[1:], "", "moments", plain(),
+            for wrong in ODD_VALUES + [text[:-1], text + "\n", text.replace("alone", "both"), text[1:], "", "moments",
+                                       plain(),
                                        text.encode(), text.split("\n"), text + "clause m day 3\n", Anything()]:
                 self.wrong({**value, "book": wrong})
 
     def test_wrong_pairs(self):
         for value in self.right[:2]:
-            for pair in ODD_VALUES + [["a", "a"], ["a"], ["a", "b", "c"], [], "ab", {"a": 1, "b": 2}, {"a", "b"}, ["a", "z"],
+            for pair in ODD_VALUES + [["a", "a"], ["a"], ["a", "b", "c"], [], "ab", {"a": 1, "b": 2}, {"a", "b"},
+                                      ["a", "z"],
                                       ["z", "a"], [["a"], "b"], ["a", None], ["a", True], [("a", "b")], Anything(),
                                       ["a", Anything()], [Anything(), "a"], [Anything(), Anything()]]:
                 self.wrong({**value, "pair": pair})
@@ -379,7 +399,8 @@ class Claims(Case):
 
     def test_wrong_cells_and_counts(self):
         crowd, cheap, dearest = self.right[5], self.right[6], self.right[7]
-        for value in ODD_VALUES + [["f", "x", "w"], ("f", "x"), ("f", "x", "w", "w"), ("f", "day", "w"), ("f", "x", 1), "fxw",
+        for value in ODD_VALUES + [["f", "x", "w"], ("f", "x"), ("f", "x", "w", "w"), ("f", "day", "w"), ("f", "x", 1),
+                                   "fxw",
                                    ("F", "x", "w"), (("f",), "x", "w"), Anything(), ("f", "x", Anything())]:
             self.wrong({**crowd, "cell": value})
             self.wrong({**dearest, "cell": value})

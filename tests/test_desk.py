@@ -41,7 +41,8 @@ class Commands(Case):
 
     def test_clause(self):
         desk = Desk(plain())
-        self.same([desk.do("clause x day 20"), desk.do("clause day x -5"), desk.do(f"clause day x {BIG}")], ["done"] * 3)
+        self.same([desk.do("clause x day 20"), desk.do("clause day x -5"), desk.do(f"clause day x {BIG}")],
+                  ["done"] * 3)
         self.same(desk.book.calendar.clauses(),
                   [("day", "x", 0), ("x", "day", 30), ("x", "day", 20), ("day", "x", -5), ("day", "x", BIG)])
         self.assertIs(list(desk.book) == list(plain()), True)
@@ -51,7 +52,8 @@ class Commands(Case):
     def test_deal(self):
         desk = Desk(plain())
         self.same(desk.do(LINE), "safe")
-        self.assertIs(desk.book["d"] == Deal("d", "hale", ["f", "g"], ["l"], ["hall"], ("x", 25), ("day", 60), price=7), True)
+        self.assertIs(desk.book["d"] == Deal("d", "hale", ["f", "g"], ["l"], ["hall"], ("x", 25), ("day", 60), price=7),
+                      True)
         self.same(desk.do("deal e k f l hall x 3 x 12 beside 0"), "a b c")
         self.same(desk.do("deal aa k f l hall x 20 x 24 alone 0"), "c")
         self.same(desk.do("deal bb k f l disc x 3 x 12 alone 0"), "safe")
@@ -83,6 +85,15 @@ class Commands(Case):
         self.raised(NothingToUndo, lambda: Desk(plain()).do("undo"))
         self.same([desk.many, desk.log(), repr(desk.book)], [0, [], repr(plain())])
 
+    def test_words_of_commands_are_names_too(self):
+        desk = Desk(plain())
+        self.same([desk.do("moment undo"), desk.do("clause undo day 3"), desk.do("bound day undo")],
+                  ["done", "done", "no"])
+        self.same(desk.do("deal price undo deal moment know undo 0 undo 1 alone 2"), "safe")
+        self.same([desk.do("word price a"), desk.do("crowd deal moment know")], ["perhaps", "1"])
+        self.same(desk.do("drop price"), "deal price undo deal moment know undo 0 undo 1 alone 2")
+        self.same([desk.do("know undo 2"), desk.many, desk.do("undo")], ["done", 5, "4"])
+
     def test_undo_is_no_change_of_its_own(self):
         desk = Desk(plain())
         desk.do("moment y")
@@ -92,7 +103,8 @@ class Commands(Case):
 
     def test_word(self):
         desk = Desk(plain())
-        self.same([desk.do(f"word {pair}") for pair in ("a b", "b a", "a c", "a a")], ["never", "never", "perhaps", "surely"])
+        self.same([desk.do(f"word {pair}") for pair in ("a b", "b a", "a c", "a a")],
+                  ["never", "never", "perhaps", "surely"])
         desk.do("know x 12")
         self.same([desk.do("word a c"), desk.do("word c b")], ["surely", "never"])
 
@@ -130,7 +142,8 @@ class Commands(Case):
 
     def test_empty_book(self):
         desk = Desk(book=Book(Calendar([], []), []))
-        self.same([desk.do(command=command) for command in ("price", "back", "crowd f l w", "chain f l w", "bound day day")],
+        self.same([desk.do(command=command) for command in ("price", "back", "crowd f l w", "chain f l w",
+                                                            "bound day day")],
                   ["0", "safe", "0", "0", "0"])
         self.same([desk.book == Book(Calendar([], []), []), desk.many, desk.log()], [True, 0, []])
 
@@ -151,13 +164,16 @@ class Forms(Case):
             self.check(value)
 
     def test_other_words(self):
-        for value in ("", " ", "prices", "Price", "PRICE", "price ", " price", "price\n", "\nprice", "price price", "undo 1",
-                      "undo undo", "back c", "do price", "moments", "moments z", "log", "many", "book", "copy", "text", "day",
+        for value in ("", " ", "prices", "Price", "PRICE", "price ", " price", "price\n", "\nprice", "price price",
+                      "undo 1",
+                      "undo undo", "back c", "do price", "moments", "moments z", "log", "many", "book", "copy", "text",
+                      "day",
                       "name", "number", "price;", "undo,back"):
             self.check(value)
 
     def test_a_word_less_or_more(self):
-        rows = ["moment z", "clause x day 4", LINE, "drop a", "know x 4", "undo", "word a b", "bound x day", "crowd f l hall",
+        rows = ["moment z", "clause x day 4", LINE, "drop a", "know x 4", "undo", "word a b", "bound x day",
+                "crowd f l hall",
                 "chain f l hall", "price", "back"]
         for row in rows:
             desk = Desk(plain())
@@ -175,27 +191,35 @@ class Forms(Case):
 
     def test_names(self):
         for wrong in ("A", "a1", "a-b", "seven" + "ab", "a,b", "1", "-", "a\n", "'a'"):
-            for row in ("moment {}", "clause {} day 1", "clause x {} 1", "drop {}", "know {} 1", "word {} b", "word a {}",
-                        "bound {} x", "bound x {}", "crowd {} l hall", "crowd f {} hall", "crowd f l {}", "chain {} l hall",
-                        "chain f {} hall", "chain f l {}", "deal {} h f l w x 0 x 1 alone 1", "deal d {} f l w x 0 x 1 alone 1",
+            for row in ("moment {}", "clause {} day 1", "clause x {} 1", "drop {}", "know {} 1", "word {} b",
+                        "word a {}",
+                        "bound {} x", "bound x {}", "crowd {} l hall", "crowd f {} hall", "crowd f l {}",
+                        "chain {} l hall",
+                        "chain f {} hall", "chain f l {}", "deal {} h f l w x 0 x 1 alone 1",
+                        "deal d {} f l w x 0 x 1 alone 1",
                         "deal d h f l w {} 0 x 1 alone 1", "deal d h f l w x 0 {} 1 alone 1"):
                 self.check(row.format(wrong))
 
     def test_day(self):
         for row in ("moment day", "drop day", "word day a", "word a day", "crowd day l hall", "crowd f day hall",
-                    "crowd f l day", "chain day l hall", "chain f day w", "chain f l day", "deal day h f l w x 0 x 1 alone 1",
+                    "crowd f l day", "chain day l hall", "chain f day w", "chain f l day",
+                    "deal day h f l w x 0 x 1 alone 1",
                     "deal d day f l w x 0 x 1 alone 1", "deal d h day l w x 0 x 1 alone 1"):
             self.check(row)
 
     def test_numbers(self):
-        for wrong in ("+1", "-0", "01", "-01", "1.0", "1_0", "--1", "-", "x", "day", "1-", "0x1", "one", "1e3", "1,0", ""):
-            for row in ("clause x day {}", "know x {}", "deal d h f l w x {} x 99 alone 1", "deal d h f l w x 0 x {} alone 1",
+        for wrong in ("+1", "-0", "01", "-01", "1.0", "1_0", "--1", "-", "x", "day", "1-", "0x1", "one", "1e3", "1,0",
+                      ""):
+            for row in ("clause x day {}", "know x {}", "deal d h f l w x {} x 99 alone 1",
+                        "deal d h f l w x 0 x {} alone 1",
                         "deal d h f l w x 0 x 1 alone {}"):
                 self.check(row.format(wrong))
 
     def test_lines_of_deals(self):
-        for line in ("deal", "deal d", LINE.replace("f,g", "g,f"), LINE.replace("f,g", "f,f"), LINE.replace("alone", "Alone"),
-                     LINE.replace("x 25", "day 61"), LINE.replace("alone 7", "alone -7"), LINE.replace("l hall", "a,b,c,e,k hall"),
+        for line in ("deal", "deal d", LINE.replace("f,g", "g,f"), LINE.replace("f,g", "f,f"),
+                     LINE.replace("alone", "Alone"),
+                     LINE.replace("x 25", "day 61"), LINE.replace("alone 7", "alone -7"),
+                     LINE.replace("l hall", "a,b,c,e,k hall"),
                      LINE + "\n", LINE.replace("f,g", "f, g")):
             self.check(line)
 
@@ -217,7 +241,8 @@ class Errors(Case):
         self.assertIs(desk.book == book, True)
 
     def test_unknown_moments(self):
-        for command, value in (("clause y x 1", "y"), ("clause x y 1", "y"), ("clause y z 1", "y"), ("clause z z 1", "z"),
+        for command, value in (("clause y x 1", "y"), ("clause x y 1", "y"), ("clause y z 1", "y"),
+                               ("clause z z 1", "z"),
                                ("clause day y 1", "y"), ("know y 1", "y"), ("know day 1", "day"), ("know a 1", "a"),
                                ("bound y x", "y"), ("bound x y", "y"), ("bound z y", "z"), ("bound y y", "y"),
                                ("deal d h f l w y 0 x 9 alone 1", "y"), ("deal d h f l w x 0 y 9 alone 1", "y"),
@@ -225,7 +250,8 @@ class Errors(Case):
             self.check(plain(), command, UnknownMoment, value=value)
 
     def test_unknown_deals(self):
-        for command, value in (("drop d", "d"), ("drop x", "x"), ("word d a", "d"), ("word a d", "d"), ("word z y", "z")):
+        for command, value in (("drop d", "d"), ("drop x", "x"), ("word d a", "d"), ("word a d", "d"),
+                               ("word z y", "z")):
             self.check(plain(), command, UnknownDeal, value=value)
 
     def test_names_taken(self):
@@ -275,7 +301,8 @@ class Errors(Case):
         for command in CHANGES:
             desk.do(command)
         told = repr(desk.book)
-        for command, error in (("moment y", NameTaken), ("clause q x 1", UnknownMoment), ("drop c", UnknownDeal), (LINE, NameTaken),
+        for command, error in (("moment y", NameTaken), ("clause q x 1", UnknownMoment), ("drop c", UnknownDeal),
+                               (LINE, NameTaken),
                                ("know x 13", NoDates), ("clause x x 1", InvalidClauses), ("nothing", InvalidCommand)):
             self.raised(error, lambda: desk.do(command))
             self.same([repr(desk.book), desk.many, desk.log()], [told, 5, CHANGES])
@@ -340,11 +367,13 @@ class Several(Case):
         self.same([desk.do_all(), desk([]), desk(()), desk.many], [[], [], [], 0])
 
     def test_an_error_in_the_midst(self):
-        for at, wrong, error in ((0, "clause x day -1", NoDates), (2, "drop z", UnknownDeal), (4, "undo it", InvalidCommand),
+        for at, wrong, error in ((0, "clause x day -1", NoDates), (2, "drop z", UnknownDeal),
+                                 (4, "undo it", InvalidCommand),
                                  (1, None, InvalidCommand), (3, "know z 1", UnknownMoment), (5, "moment x", NameTaken),
                                  (3, ["price"], InvalidCommand), (2, "clause x x 1", InvalidClauses)):
             commands = CHANGES[:at] + [wrong] + CHANGES[at:]
-            for run in (lambda desk: desk.do_all(*commands), lambda desk: desk(commands), lambda desk: desk(tuple(commands))):
+            for run in (lambda desk: desk.do_all(*commands), lambda desk: desk(commands),
+                        lambda desk: desk(tuple(commands))):
                 desk = Desk(plain())
                 desk.do("moment w")
                 told = repr(desk.book)
@@ -523,7 +552,8 @@ class Copies(Case):
         self.same(repr(twin.book), repr(plain()))
 
     def test_equal(self):
-        one, other = Desk(plain()), Desk(Book(Calendar(["x"], [("x", "day", 30), ("day", "x", 0)]), list(plain())[::-1]))
+        one, other = Desk(plain()), Desk(Book(Calendar(["x"], [("x", "day", 30), ("day", "x", 0)]),
+                                              list(plain())[::-1]))
         self.assertIs(one == other, True)
         self.assertIs(one != other, False)
         one.do("moment y")

@@ -13,23 +13,28 @@ OTHERS = "lots, house, others"
 
 FUNCTIONS = {
     "closing": {
-        "bound": CALENDAR, "row": CALENDAR, "bounds": "calendar", "span": "calendar, point, other", "reaching": CALENDAR,
+        "bound": CALENDAR, "row": CALENDAR, "bounds": "calendar", "span": "calendar, point, other",
+        "reaching": CALENDAR,
         "dates_with": "calendar, point, other, number", "needless": "calendar", "least_clauses": "calendar",
         "are_alike": "one, other", "parting_dates": "one, other", "all_dates": "calendar, first, last"},
     "diaries": {
-        "is_dates": VALUE, "on_at": "book, dates, cell, day", "diary": "book, dates, cell", "busiest": "book, dates, cell",
+        "is_dates": VALUE, "on_at": "book, dates, cell, day", "diary": "book, dates, cell",
+        "busiest": "book, dates, cell",
         "clashes": "book, dates"},
     "pairs": {
         "word": PAIR, "clash": PAIR, "words": BOOK, "reach": PAIR, "apart_paper": PAIR, "together_paper": PAIR,
-        "surely_paper": PAIR, "is_apart_paper": PAIR + ", value", "is_surely_paper": PAIR + ", value", "dates_apart": PAIR},
+        "surely_paper": PAIR, "is_apart_paper": PAIR + ", value", "is_surely_paper": PAIR + ", value",
+        "dates_apart": PAIR},
     "together": {
         "all_on": NAMES, "is_together_paper": NAMES + ", value", "first_apart": NAMES, "are_surely_on": NAMES,
-        "is_safe": BOOK, "open_pairs": BOOK, "quiet_dates": BOOK, "is_quiet": "book, dates", "tree": BOOK, "is_tree": VALUE},
+        "is_safe": BOOK, "open_pairs": BOOK, "quiet_dates": BOOK, "is_quiet": "book, dates", "tree": BOOK,
+        "is_tree": VALUE},
     "order": {
         "is_ahead": PAIR, "ahead_row": PAIR, "is_ahead_row": PAIR + ", value", "all_ahead": "book, name",
         "all_behind": "book, name", "direct_pairs": BOOK, "least_gap": PAIR, "in_sequence": NAMES},
     "crowds": {
-        "is_crowd": VALUE, "is_chain": VALUE, "is_roster": NAMES + ", value", "greatest_crowd": NAMES, "least_roster": NAMES,
+        "is_crowd": VALUE, "is_chain": VALUE, "is_roster": NAMES + ", value", "greatest_crowd": NAMES,
+        "least_roster": NAMES,
         "most_at_once": NAMES, "heights": NAMES, "layers": NAMES, "longest_chain": NAMES, "at_most_paper": NAMES,
         "is_at_most_paper": NAMES + ", value"},
     "keeping": {
@@ -37,9 +42,11 @@ FUNCTIONS = {
         "cover": CELL, "is_charge": CELL + ", value", "is_cover": CELL + ", value"},
     "buying": {
         "is_back": VALUE, "least_back": BOOK, "least_price": BOOK, "spare_backs": BOOK, "premium": "book, name",
-        "is_loads": VALUE, "loads": BOOK, "sides": BOOK, "odd_ring": BOOK, "is_odd_ring": VALUE, "to_buy": "book, deal"},
+        "is_loads": VALUE, "loads": BOOK, "sides": BOOK, "odd_ring": BOOK, "is_odd_ring": VALUE,
+        "to_buy": "book, deal"},
     "windows": {
-        "barred": "book, name, moment", "held": "book, name, moment", "free_stretches": MOMENT, "taken_stretches": MOMENT,
+        "barred": "book, name, moment", "held": "book, name, moment", "free_stretches": MOMENT,
+        "taken_stretches": MOMENT,
         "is_free": POINT, "room_at": POINT, "earliest": "book, cell, point, long, alone=True", "bar_at": POINT,
         "clearing_at": POINT, "is_bar": "book, cell, point, value, alone=True",
         "is_clearing": "book, cell, point, value, alone=True"},
@@ -124,7 +131,8 @@ class Interface(Case):
             for name, told in table.items():
                 function = getattr(module, name)
                 self.assertTrue(inspect.isfunction(function), name)
-                self.same([function.__module__, function.__name__, parameters(function)], ["letdays." + file, name, told])
+                self.same([function.__module__, function.__name__, parameters(function)],
+                          ["letdays." + file, name, told])
                 self.assertIs(inspect.isgeneratorfunction(function), f"{file}.{name}" in GENERATORS)
 
     def test_classes(self):

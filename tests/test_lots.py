@@ -144,6 +144,10 @@ class Behind(Case):
         self.raised(InvalidLots, lambda: lots.chosen("x", ["g"]), position=None)
         self.raised(InvalidNames, lambda: lots.chosen("x", ["g", "g"]), position=None)
         self.same(repr(lots.chosen("x", ["f"])), "Lots([('y', ['g'], 1)])")
+        for others in ([("y", ["g"], 1), ("z", ["f", "h"], 1)], [("y", ["g", "h"], 0), ("z", ["g"], 0)]):
+            more = Lots([("x", ["f", "g"], 1)] + others)
+            self.raised(InvalidLots, lambda: more.chosen("x", ["g"]), position=None)
+            self.same(len(more.chosen("x", ["f"])), 2)
         alone = Lots([("x", ["f"], 1)])
         self.raised(InvalidNames, lambda: alone.chosen("x", []), position=None)
         self.raised(InvalidLots, lambda: alone.chosen("x", ["f"]), position=None)

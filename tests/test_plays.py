@@ -109,7 +109,8 @@ class Loosened(Case):
         self.same(loosened(twice(3, 9, 5), 0, 2).calendar.clauses(), [("m", "day", 5), ("m", "day", 9)])
         self.same(loosened(twice(5, 9, 3), 2, 2).calendar.clauses(), [("m", "day", 5), ("m", "day", 9)])
         self.same(loosened(twice(9, 3, 5), 1, 2).calendar.clauses(), [("m", "day", 9), ("m", "day", 5)])
-        self.same(loosened(twice(9, 3, 5), 1, 3).calendar.clauses(), [("m", "day", 9), ("m", "day", 6), ("m", "day", 5)])
+        self.same(loosened(twice(9, 3, 5), 1, 3).calendar.clauses(),
+                  [("m", "day", 9), ("m", "day", 6), ("m", "day", 5)])
 
     def test_a_clause_beside_which_another_one_does(self):
         # Both say that a ends ahead of b; the weaker one can go, and the stronger one then only down to it.

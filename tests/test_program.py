@@ -32,7 +32,8 @@ def some_command(source, book):
     name, second = source.choice(names), source.choice(names)
     lands, how = source.choice(["x", "y", "x,y"]), source.choice(["alone", "beside"])
     fresh = source.choice("abcdefgh")
-    kinds = [f"moment {source.choice('mnpr')}", f"clause {one} {other} {number}", f"drop {name}", f"know {one} {number}",
+    kinds = [f"moment {source.choice('mnpr')}", f"clause {one} {other} {number}", f"drop {name}",
+             f"know {one} {number}",
              f"deal {fresh} h f {lands} w {one} {begin} {other} {begin + long} {how} {source.randint(0, 5)}",
              f"deal {fresh} h f {lands} w {one} {begin} {one} {begin + long} {how} {source.randint(0, 5)}",
              f"word {name} {second}", f"bound {one} {other}", "crowd f x w", "chain f y w", "price", "back", "undo"]
@@ -70,7 +71,8 @@ class ByTurns(Case):
     def test_a_desk_and_the_functions(self):
         source, told = numbers(401), {}
         for _ in range(12):
-            first = Book(Calendar(["m"], [("m", "day", 9)]), [deal("a", ("m", 0), ("m", 3)), deal("b", ("day", 4), ("m", 9))])
+            first = Book(Calendar(["m"], [("m", "day", 9)]),
+                         [deal("a", ("m", 0), ("m", 3)), deal("b", ("day", 4), ("m", 9))])
             desk, books, log = Desk(first), [first], []
             shown = []
             for _ in range(150):
@@ -93,7 +95,8 @@ class ByTurns(Case):
             # The elder books are as they were.
             for book, text in shown:
                 self.same(repr(book), text)
-        self.assertGreater(min(told[key] for key in ("error", "moment", "clause", "drop", "know", "deal", "undo", "back")), 20)
+        self.assertGreater(min(told[key] for key in ("error", "moment", "clause", "drop", "know", "deal", "undo",
+                                                     "back")), 20)
 
     def check_error(self, books, command, found):
         """An error of a desk is one of the functions, too, but where the desk has one of its own."""
@@ -143,7 +146,8 @@ class Guarantees(Case):
             names = book.names()
             self.same(len(greatest_crowd(book, names)), len(least_roster(book, names)))
             for cell in book.cells():
-                self.same([sum(number for _, number in charge(book, cell)), sum(number for _, number in cover(book, cell))],
+                self.same([sum(number for _, number in charge(book, cell)),
+                           sum(number for _, number in cover(book, cell))],
                           [chain_price(book, cell), crowd_price(book, cell)])
 
     def test_learning_only_sharpens(self):

@@ -8,7 +8,7 @@ from letdays.deals import Deal
 from letdays.errors import InvalidRights, NotSafe, TooMany, UnknownDeal
 from letdays.rights import (is_safe_with, is_unsafe_use, room, rooms, slack, slacks, unsafe_use, with_rights)
 from letdays.together import is_safe, open_pairs
-from tests.support import Anything, Case, ODD_VALUES, ahead_by_hand, bound_by_hand, clashing_by_hand, days_by_hand
+from tests.support import Anything, Case, ODD_VALUES, ahead_by_hand, bound_by_hand, clashing_by_hand
 from tests.support import deal, numbers, open_books, open_by_hand, point_day, safe_books, small_books
 from tests.support import touching_by_hand
 
@@ -293,7 +293,8 @@ class Judged(Case):
                      {"early": (0, 5), "disc": (6, None)}, {"early": (0, 5), "disk": (6, 0)},
                      {"early": (0, 5), None: (6, 0)}, {"early": (0, 5), "disc": "60"}, ("early", "disc")):
             self.assertIs(self.judge(uses, self.dates, 41), False, uses)
-        for dates in ({"p": 7, "q": 66}, {"p": -1, "q": 67}, {"p": 7}, {"p": 7, "q": None}, {"p": True, "q": 67}, [7, 67],
+        for dates in ({"p": 7, "q": 66}, {"p": -1, "q": 67}, {"p": 7}, {"p": 7, "q": None}, {"p": True, "q": 67},
+                      [7, 67],
                       {"p": 7, "q": 67, "r": 1}, {"p": 7, "q": "67"}, None, {"p": 8, "q": 68}):
             self.assertIs(self.judge(self.uses, dates, 41), False, dates)
         for day in (None, True, "41", [41], -41):
@@ -305,7 +306,8 @@ class Judged(Case):
         book = Book(Calendar([], []), [deal("a", ("day", 0), ("day", 0)), deal("b", ("day", 1), ("day", 1))])
         rights = {"a": (0, 1)}
         self.same([is_unsafe_use(book, rights, ({"a": (0, 1)}, {}, day)) for day in (1, True, 0)], [True, False, False])
-        self.same([is_unsafe_use(book, rights, ({"a": (0, late)}, {}, 1)) for late in (1, True, 0)], [True, False, False])
+        self.same([is_unsafe_use(book, rights, ({"a": (0, late)}, {}, 1)) for late in (1, True, 0)],
+                  [True, False, False])
 
     def test_two_that_do_not_touch(self):
         book = Book(Calendar([], []), [deal("a", ("day", 0), ("day", 5)), deal("b", ("day", 0), ("day", 5), "y")])
@@ -403,7 +405,8 @@ class WrongRights(Case):
             self.check({"net": (1, 1), value: (1, 1)})
 
     def test_wrong_numbers(self):
-        for value in ODD_VALUES + [[1, 1], (1,), (1, 1, 1), (True, 1), (1, False), (-1, 0), (0, -1), (None, 1), (1, "1"),
+        for value in ODD_VALUES + [[1, 1], (1,), (1, 1, 1), (True, 1), (1, False), (-1, 0), (0, -1), (None, 1),
+                                   (1, "1"),
                                    ((1, 1),), {"early": 1, "late": 1}, "11", Anything(), (Anything(), 1)]:
             self.check({"net": value})
             self.check({"early": (0, 0), "net": value, "zz": None})

@@ -106,7 +106,8 @@ class Covering(Case):
 
     def test_the_edges(self):
         book = plain()
-        self.same([covering(book, DATES, ("f", "x", "w", ("day", day))) for day in (0, 1, 2, 9, 10, 11, 20, 21, 30, 31)],
+        self.same([covering(book, DATES, ("f", "x", "w", ("day", day))) for day in (0, 1, 2, 9, 10, 11, 20, 21, 30,
+                                                                                    31)],
                   [[], ["a"], ["a", "b"], ["a", "b"], ["a"], [], [], ["c"], ["c"], []])
         self.same([surely_covering(book, ("f", "x", "w", ("day", day))) for day in (1, 2, 3, 9, 10, 22, 23, 29, 30)],
                   [[], ["b"], ["a", "b"], ["a", "b"], [], [], ["c"], ["c"], []])
@@ -114,7 +115,8 @@ class Covering(Case):
                   [[], ["a"], ["a"], ["a", "b"], ["a", "b"], ["a"], ["a"], []])
 
     def test_great_numbers(self):
-        book = Book(Calendar(["m"], [("day", "m", -BIG)]), [deal("a", ("m", 0), ("m", BIG)), deal("b", ("day", 0), ("m", 0))])
+        book = Book(Calendar(["m"], [("day", "m", -BIG)]), [deal("a", ("m", 0), ("m", BIG)),
+                                                            deal("b", ("day", 0), ("m", 0))])
         self.same([surely_covering(book, ("f", "x", "w", ("day", number))) for number in (-1, 0, BIG, BIG + 1)],
                   [[], ["b"], ["b"], []])
         self.same(surely_covering(book, ("f", "x", "w", ("m", BIG))), ["a"])
@@ -139,7 +141,8 @@ class Covering(Case):
 def wrong_showings():
     """Values that are no showing of the plain book."""
     point = ("day", 5)
-    found = ODD_VALUES + [["f", "x", "w", point], ("f", "x", "w"), ("f", "x", "w", point, 1), ("f", "x", "w", ["day", 5]),
+    found = ODD_VALUES + [["f", "x", "w", point], ("f", "x", "w"), ("f", "x", "w", point, 1),
+                          ("f", "x", "w", ["day", 5]),
                           ("f", "x", "w", "day", 5), (("f", "x", "w"), point), ("f", "x", "w", ("n", 5)), "fxw5",
                           ("f", "x", "w", ("day", True)), ("f", "x", "w", ("day", None)), ("f", "x", "w", ("day",)),
                           ("F", "x", "w", point), ("f", "day", "w", point), ("f", "x", ["w"], point), Anything(),
@@ -222,7 +225,8 @@ class Plans(Case):
             self.same([plan(plain(), DATES, {}, showings), lack(plain(), DATES, {}, showings)], [[], None])
             self.same([most_shown(plain(), DATES, {"a": 3}, showings), sure_plan(plain(), {}, showings)], [0, []])
             self.same([sure_lack(plain(), {}, showings), is_plan(plain(), DATES, {}, showings, [])], [None, True])
-            self.same([is_lack(plain(), DATES, {}, showings, []), is_sure_plan(plain(), {}, showings, ())], [False, True])
+            self.same([is_lack(plain(), DATES, {}, showings, []), is_sure_plan(plain(), {}, showings, ())],
+                      [False, True])
 
     def test_showings_that_no_deal_covers(self):
         none = ("f", "x", "w", ("day", 15))
@@ -239,12 +243,14 @@ class Plans(Case):
             self.assertIs(is_lack(plain(), DATES, counts, SHOWINGS, [0]), True)
             self.assertIs(is_plan(plain(), DATES, counts, SHOWINGS, ["a", "c", "b"]), False)
         counts = {"c": 1, "b": BIG}
-        self.same([plan(plain(), DATES, counts, SHOWINGS), lack(plain(), DATES, counts, SHOWINGS)], [["b", "c", "b"], None])
+        self.same([plan(plain(), DATES, counts, SHOWINGS), lack(plain(), DATES, counts, SHOWINGS)],
+                  [["b", "c", "b"], None])
         self.assertIs(is_plan(plain(), DATES, counts, SHOWINGS, ["a", "c", "b"]), False)
 
     def test_one_showing_twice(self):
         showings = [SHOWINGS[1]] * 3
-        self.same([plan(plain(), DATES, {"c": 3}, showings), plan(plain(), DATES, {"c": 2}, showings)], [["c"] * 3, None])
+        self.same([plan(plain(), DATES, {"c": 3}, showings), plan(plain(), DATES, {"c": 2}, showings)],
+                  [["c"] * 3, None])
         self.same([lack(plain(), DATES, {"c": 2}, showings), most_shown(plain(), DATES, {"c": 2}, showings)],
                   [[0, 1, 2], 2])
         self.assertIs(is_lack(plain(), DATES, {"c": 1}, showings, [0, 2]), True)
@@ -252,7 +258,8 @@ class Plans(Case):
 
     def test_dates_and_all_dates(self):
         showings = [("f", "x", "w", ("day", 10))]
-        self.same([plan(plain(), DATES, {"a": 1}, showings), plan(plain(), {"m": 0}, {"a": 1}, showings)], [["a"], None])
+        self.same([plan(plain(), DATES, {"a": 1}, showings), plan(plain(), {"m": 0}, {"a": 1}, showings)],
+                  [["a"], None])
         self.same([sure_plan(plain(), {"a": 1}, showings), sure_lack(plain(), {"a": 1}, showings)], [None, [0]])
         self.assertIs(is_sure_plan(plain(), {"a": 1}, showings, ["a"]), False)
 
@@ -291,7 +298,8 @@ class Judged(Case):
             for value in (["a", "c", "b"], ("b", "c", "a")):
                 self.assertIs(judge(value), True)
             for value in ODD_VALUES + [["a", "c", "a"], ["a", "c"], ["a", "c", "b", "b"], ["a", "b", "c"], "acb",
-                                       ["a", "z", "b"], {"a": 1, "c": 1, "b": 1}, {"a", "b", "c"}, [["a"], ["c"], ["b"]],
+                                       ["a", "z", "b"], {"a": 1, "c": 1, "b": 1}, {"a", "b", "c"},
+                                       [["a"], ["c"], ["b"]],
                                        Anything(), plain()]:
                 self.assertIs(judge(value), False)
             for value in ODD_VALUES + ["z", Anything()]:
@@ -303,8 +311,10 @@ class Judged(Case):
         def judge(value):
             return is_lack(plain(), DATES, self.counts, showings, value)
         self.same([judge([0, 1]), judge((0, 1))], [True, True])
-        for value in ODD_VALUES + [[1, 0], [0, 0], [0], [0, 1, 2], [0, 1, 3], [False, True], [0, True], [False, 1], "01",
-                                   {0: 1, 1: 1}, {0, 1}, range(2), [[0], [1]], [0, 1, 1], [0, "1"], [-1, 0, 1], [-3, -2],
+        for value in ODD_VALUES + [[1, 0], [0, 0], [0], [0, 1, 2], [0, 1, 3], [False, True], [0, True], [False, 1],
+                                   "01",
+                                   {0: 1, 1: 1}, {0, 1}, range(2), [[0], [1]], [0, 1, 1], [0, "1"], [-1, 0, 1],
+                                   [-3, -2],
                                    [0, None], [0, BIG], Anything(), plain()]:
             self.assertIs(judge(value), False, value)
         for value in ODD_VALUES + [Anything()]:
@@ -325,7 +335,8 @@ class Wrong(Case):
 
     def test_counts(self):
         wrong = [value for value in ODD_VALUES if not isinstance(value, dict)] + [
-            {"a": 1, "z": 1}, {"a": True}, {"a": -1}, {"a": None}, {"a": "1"}, {"a": [1]}, {1: 1}, {None: 0}, {("a",): 1},
+            {"a": 1, "z": 1}, {"a": True}, {"a": -1}, {"a": None}, {"a": "1"}, {"a": [1]}, {1: 1}, {None: 0},
+            {("a",): 1},
             {"a": 1, "b": False}, [("a", 1)], {"a": Anything()}, Anything(), {"day": 0}]
         for value in wrong:
             for call in calls(plain(), DATES, value, None):
@@ -362,7 +373,8 @@ class Wrong(Case):
     def test_by_name_and_new(self):
         book, counts, showings = plain(), {"c": 1, "b": 2}, list(SHOWINGS)
         dates = dict(DATES)
-        self.same([plan(showings=showings, counts=counts, dates=dates, book=book), lack(showings=showings, counts=counts,
+        self.same([plan(showings=showings, counts=counts, dates=dates, book=book),
+                   lack(showings=showings, counts=counts,
                    dates=dates, book=book)], [["b", "c", "b"], None])
         self.same(is_plan(value=["b", "c", "b"], showings=showings, counts=counts, dates=dates, book=book), True)
         self.same(is_lack(value=[0], showings=showings, counts=counts, dates=dates, book=book), False)

@@ -77,7 +77,8 @@ def text_by_hand(book):
     for one, other, number in book.calendar.clauses():
         lines.append("clause " + one + " " + other + " " + str(number))
     for one in book:
-        words = ["deal", one.name, one.house, ",".join(one.films), ",".join(one.lands), ",".join(one.ways), one.begin[0],
+        words = ["deal", one.name, one.house, ",".join(one.films), ",".join(one.lands), ",".join(one.ways),
+                 one.begin[0],
                  str(one.begin[1]), one.end[0], str(one.end[1]), "alone" if one.alone else "beside", str(one.price)]
         lines.append(" ".join(words))
     return "".join(line + "\n" for line in lines)
@@ -103,7 +104,8 @@ def right_books():
     """Books of many kinds."""
     wide = Deal("a", "hale", ["g", "f", "k", "e"], ["y", "x", "z", "w"], ["w", "v", "u"], ("day", -BIG), ("m", BIG),
                 alone=False, price=BIG)
-    ten = [deal(name, ("day", -at), ("m", at), "xy"[:at % 2 + 1], at % 3 == 0, at) for at, name in enumerate("abcdefghij")]
+    ten = [deal(name, ("day", -at), ("m", at), "xy"[:at % 2 + 1], at % 3 == 0, at) for at,
+           name in enumerate("abcdefghij")]
     return [Book(Calendar([], []), []), Book(Calendar(["n", "m"], []), []), Book(Calendar(list("hgfedcba"), []), []),
             Book(Calendar(["m"], [("m", "day", -BIG), ("day", "m", BIG + 5)]), []), Book(Calendar(["m"], []), [wide]),
             Book(Calendar([], []), [deal("a", ("day", 0), ("day", 0))]), Book(Calendar(["m"], []), ten[::-1]),
@@ -191,23 +193,30 @@ class Spoilt(Case):
 
     def test_deals(self):
         right = "deal bb iver f x,y v,w n 0 n 9 beside 0"
-        for old, new in (("deal", "deals"), ("deal", "clause"), ("bb", "BB"), ("bb", "day"), ("bb", "bbbbbbb"), ("bb", "b1"),
+        for old, new in (("deal", "deals"), ("deal", "clause"), ("bb", "BB"), ("bb", "day"), ("bb", "bbbbbbb"),
+                         ("bb", "b1"),
                          ("iver", "day"), ("iver", "i-r"), (" f ", " f,f "), (" f ", " g,f "), (" f ", " f, "),
                          (" f ", " ,f "), (" f ", " f,,g "), (" f ", " day "), (" f ", " a,b,c,d,e "), (" f ", "  "),
-                         ("x,y", "y,x"), ("x,y", "x,x"), ("x,y", "x y"), ("x,y", "x, y"), ("x,y", "x,y,"), ("x,y", "X,y"),
+                         ("x,y", "y,x"), ("x,y", "x,x"), ("x,y", "x y"), ("x,y", "x, y"), ("x,y", "x,y,"),
+                         ("x,y", "X,y"),
                          ("x,y", "a,b,c,d,e"), ("v,w", "w,v"), ("v,w", "t,u,v,w"), ("v,w", "v;w"), ("n 0", "n -0"),
-                         ("n 0", "n +0"), ("n 0", "n 00"), ("n 0", "n"), ("n 0", "o 0"), ("n 0", "n 10"), ("n 0", "0 n"),
+                         ("n 0", "n +0"), ("n 0", "n 00"), ("n 0", "n"), ("n 0", "o 0"), ("n 0", "n 10"),
+                         ("n 0", "0 n"),
                          ("n 9", "n 09"), ("n 9", "n -1"), ("n 9", "o 9"), ("n 9", "n 9 9"), ("n 9", "n nine"),
-                         ("n 9", "N 9"), ("beside", "besides"), ("beside", "Beside"), ("beside", ""), ("beside", "True"),
+                         ("n 9", "N 9"), ("beside", "besides"), ("beside", "Beside"), ("beside", ""),
+                         ("beside", "True"),
                          ("beside 0", "beside -1"), ("beside 0", "beside 00"), ("beside 0", "beside -0"),
                          ("beside 0", "beside"), ("beside 0", "beside 0 0"), ("beside 0", "beside 0 "),
-                         ("beside 0", "beside x"), ("beside 0", "beside 0,"), ("beside 0", "beside 0\t"), ("deal bb", "bb"),
+                         ("beside 0", "beside x"), ("beside 0", "beside 0,"), ("beside 0", "beside 0\t"),
+                         ("deal bb", "bb"),
                          ("deal ", "deal  "), ("deal", " deal"), ("n 9", "m -99"), ("n 9", "day 2"), ("iver", ""),
                          ("iver f", "iver"), ("deal bb", "deal a"), ("deal bb", "deal aa,"), (right, "")):
             self.assertEqual(right.count(old), 1, old)
             self.check(spoilt(6, right.replace(old, new)), 6)
-        for old, new in (("bb", "aa"), ("bb", "bbbbbb"), ("bb", "ab"), ("iver", "a"), (" f ", " a,b,c,d "), ("n 0", "n 9"),
-                         ("x,y", "f"), ("v,w", "f"), ("n 0", "n -90"), ("n 9", "m 10"), ("n 9", "day 30"), ("beside", "alone"),
+        for old, new in (("bb", "aa"), ("bb", "bbbbbb"), ("bb", "ab"), ("iver", "a"), (" f ", " a,b,c,d "),
+                         ("n 0", "n 9"),
+                         ("x,y", "f"), ("v,w", "f"), ("n 0", "n -90"), ("n 9", "m 10"), ("n 9", "day 30"),
+                         ("beside", "alone"),
                          ("beside 0", "beside 10"), ("v,w", "u,v,w"), ("n 0", "day 0")):
             self.same(text_of(read_book(spoilt(6, right.replace(old, new)))), spoilt(6, right.replace(old, new)))
 
@@ -307,9 +316,12 @@ class Lines(Case):
     def test_spoilt_lines(self):
         right = "deal a hale f,g x w day -4 m 20 alone 5"
         self.same(line_of(read_deal(right)), right)
-        for line in (right + "\n", " " + right, right + " ", right.replace("-4", "-04"), right.replace("f,g", "g,f"), "",
-                     right.replace("day -4", "m 21"), right.replace("alone", "both"), right[:-2], right[5:], right + "\nx",
-                     right.replace("f,g", "a,b,c,d,e"), right.replace(" 5", " -5"), TEXT, right.replace("deal a", "deal day"),
+        for line in (right + "\n", " " + right, right + " ", right.replace("-4", "-04"), right.replace("f,g", "g,f"),
+                     "",
+                     right.replace("day -4", "m 21"), right.replace("alone", "both"), right[:-2], right[5:],
+                     right + "\nx",
+                     right.replace("f,g", "a,b,c,d,e"), right.replace(" 5", " -5"), TEXT,
+                     right.replace("deal a", "deal day"),
                      right.replace("x w", "a,b,c,d,e w"), right.replace("x w", "x a,b,c,d")):
             self.raised(InvalidText, lambda: read_deal(line), line=1)
 

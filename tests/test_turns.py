@@ -139,7 +139,8 @@ class Judged(Case):
     def test_stuck_lists_of_any_kind(self):
         lots = Lots([("x", ["f"], 1), ("y", ["f"], 1), ("z", ["g"], 1)])
         self.same([is_stuck(lots, value) for value in (["x", "y"], ("x", "y"))], [True, True])
-        for value in ODD_VALUES + [["y", "x"], ["x", "x"], ["x"], ["x", "y", "z"], ["x", "y", "y"], ["x", "y", "w"], "xy",
+        for value in ODD_VALUES + [["y", "x"], ["x", "x"], ["x"], ["x", "y", "z"], ["x", "y", "y"], ["x", "y", "w"],
+                                   "xy",
                                    {"x": 1, "y": 1}, {"x", "y"}, [["x", "y"]], ["x", None], [], Anything(), lots]:
             self.assertIs(is_stuck(lots, value), False)
             for row in (["x", value], [value, "y"], ("x", "y", value)):
